@@ -1,0 +1,279 @@
+"""What of the rules L1 to L28 can be seen in the source files; faults are told as (rule, file, line)."""
+
+import ast
+import builtins
+import os
+import re
+
+LIBRARY = {
+    "heapq": {"heappush", "heappop", "heapify", "heapreplace", "heappushpop"},
+    "math": {"gcd", "lcm", "isqrt", "comb", "perm", "factorial"},
+    "itertools": {"product", "combinations", "permutations"},
+}
+BUILTINS = set(
+    "len range enumerate zip min max sum abs sorted reversed int str bool bytes list tuple dict set frozenset "
+    "isinstance ord repr any all divmod iter next map super property staticmethod classmethod "
+    "Exception ValueError TypeError KeyError IndexError LookupError ZeroDivisionError ArithmeticError "
+    "OverflowError RuntimeError NotImplementedError AttributeError StopIteration NotImplemented".split())
+# Whoever shows values in an interactive way binds _ there.
+TAKEN = set(dir(builtins)) - {"_"}
+METHODS = set(
+    "append clear copy count endswith extend find get index insert isalnum isalpha isdigit islower isspace "
+    "isupper items join keys ljust lower lstrip partition pop remove replace reverse rfind rjust rpartition "
+    "rsplit rstrip setdefault split splitlines startswith strip update upper values zfill bit_length title "
+    "capitalize swapcase casefold center expandtabs removeprefix removesuffix rindex isascii isdecimal "
+    "isnumeric istitle isidentifier isprintable translate add discard".split())
+VALUE_NAMES = {name for kind in (str, int, list, dict, set, bytes, tuple) for name in vars(kind)}
+WORDS = ("type typing typing_extensions enum Enum IntEnum StrEnum Flag IntFlag Generic Protocol ABC ABCMeta "
+         "namedtuple NamedTuple TypedDict TYPE_CHECKING abstractmethod").split()
+UNUSED = set("register mro elements open input law version_info with_traceback add_note attrgetter breakpoint "
+             "builtins compile copyright credits delattr dir eval exec exit gc getattr globals hasattr help id "
+             "importlib license locals methodcaller os quit setattr super type vars sys".split())
+LAZY = {"zip", "enumerate", "reversed", "items", "keys", "values", "map"}
+KEYWORDS = {"sorted": {"key", "reverse"}, "min": {"key", "default"}, "max": {"key", "default"},
+            "sum": {"start"}, "enumerate": {"start"}, "zip": {"strict"}}
+STATEMENTS = (
+    ast.Assign, ast.AugAssign, ast.AnnAssign, ast.If, ast.While, ast.For, ast.Return, ast.Break, ast.Continue,
+    ast.Pass, ast.Raise, ast.Assert, ast.Delete, ast.Nonlocal, ast.Match, ast.With, ast.Expr, ast.Try,
+    ast.FunctionDef, ast.ClassDef, ast.ImportFrom)
+
+
+class Source:
+    """One file: its text, its tree, and the parent of each node."""
+
+    def __init__(self, folder, name):
+        self.name = name
+        with open(os.path.join(folder, name), encoding="utf-8") as file:
+            self.text = file.read()
+        self.tree = ast.parse(self.text)
+        self.parents = {}
+        for node in ast.walk(self.tree):
+            for child in ast.iter_child_nodes(node):
+                self.parents[child] = node
+        self.nodes = list(ast.walk(self.tree))
+
+    def of(self, *kinds):
+        return [node for node in self.nodes if isinstance(node, kinds)]
+
+    def defined(self):
+        return {node.name for node in self.tree.body if isinstance(node, (ast.FunctionDef, ast.ClassDef))} | {
+            node.targets[0].id for node in self.tree.body if isinstance(node, ast.Assign)}
+
+    def imports(self):
+        return [(node, alias) for node in self.of(ast.ImportFrom) for alias in node.names]
+
+
+def read_package(folder):
+    names = sorted(name for name in os.listdir(folder) if name != "__pycache__")
+    return [Source(folder, name) for name in names if name.endswith(".py")], names
+
+
+def called_name(node):
+    if isinstance(node.func, ast.Name):
+        return node.func.id
+    return node.func.attr if isinstance(node.func, ast.Attribute) else ""
+
+
+def faults_of(folder):
+    sources, names = read_package(folder)
+    faults = [("L1", name, 0) for name in names if not re.fullmatch(r"[a-z0-9_]+\.py", name)]
+    known = {f"{os.path.basename(folder)}.{source.name[:-3]}": source for source in sources}
+    methods = {node.name for source in sources for node in source.of(ast.FunctionDef)
+               if isinstance(source.parents[node], ast.ClassDef)}
+    assigned = {node.attr for source in sources for node in source.of(ast.Attribute)
+                if isinstance(node.ctx, ast.Store)}
+    for source in sources:
+        for check in (text_faults, import_faults, size_faults, level_faults, name_faults, statement_faults,
+                      expression_faults, call_faults, set_faults, lazy_faults):
+            for rule, line in check(source, known):
+                faults.append((rule, source.name, line))
+        for node in source.of(ast.Attribute):
+            is_call = isinstance(source.parents[node], ast.Call) and source.parents[node].func is node
+            if is_call and node.attr not in METHODS | methods:
+                faults.append(("L25", source.name, node.lineno))
+            if not is_call and node.attr not in assigned:
+                faults.append(("L18", source.name, node.lineno))
+    faults += [("L26", name, 0) for name in sorted((methods | assigned) & VALUE_NAMES - {"__init__", "__eq__"})
+               if name not in METHODS]
+    faults += [("L18", name, 0) for name in sorted(methods & assigned)]
+    return faults + ring_faults(known)
+
+
+def text_faults(source, known):
+    for number, line in enumerate(source.text.split("\n"), 1):
+        if len(line) > 120:
+            yield "L10", number
+        if not all(" " <= sign <= "~" for sign in line):
+            yield "L14", number
+        code = line.split("#")[0]
+        if any(re.search(rf"\b{word}\b", code) for word in WORDS):
+            yield "L17", number
+        if re.search("dataclass|overload|contextmanager|_wall|_WallAttr", line):
+            yield "L17", number
+    for node in source.of(ast.Constant):
+        if isinstance(node.value, str) and ("%" in node.value or "__" in node.value):
+            yield "L27", node.lineno
+        if isinstance(node.value, (float, complex)):
+            yield "L7", node.lineno
+
+
+def import_faults(source, known):
+    if source.of(ast.Import):
+        yield "L16", 1
+    for node, alias in source.imports():
+        if node.level or alias.asname:
+            yield "L16", node.lineno
+        elif node.module in LIBRARY:
+            if alias.name not in LIBRARY[node.module]:
+                yield "L2", node.lineno
+        elif node.module not in known or alias.name not in known[node.module].defined():
+            yield "L16", node.lineno
+
+
+def ring_faults(known):
+    needs = {name: {node.module for node, _ in source.imports() if node.module in known}
+             for name, source in known.items()}
+    while needs:
+        free = [name for name in needs if not needs[name] & set(needs)]
+        if not free:
+            return [("L16", name, 0) for name in needs]
+        for name in free:
+            del needs[name]
+    return []
+
+
+def size_faults(source, known):
+    if len(source.text.split("\n")) > 400:
+        yield "L10", 400
+    for node in source.of(ast.FunctionDef):
+        if node.end_lineno - node.lineno + 1 > 40:
+            yield "L10", node.lineno
+
+
+def level_faults(source, known):
+    for at, node in enumerate(source.tree.body):
+        is_text = isinstance(node, ast.Expr) and isinstance(node.value, ast.Constant) and at == 0
+        is_value = isinstance(node, ast.Assign) and len(node.targets) == 1 and isinstance(node.targets[0], ast.Name)
+        if not (is_text or is_value or isinstance(node, (ast.FunctionDef, ast.ClassDef, ast.ImportFrom))):
+            yield "L3", node.lineno
+    for node in source.of(ast.ClassDef):
+        if node.decorator_list or not isinstance(source.parents[node], ast.Module):
+            yield "L5", node.lineno
+
+
+def name_faults(source, known):
+    imported = [alias.name for _, alias in source.imports()]
+    classes = [node.name for node in source.of(ast.ClassDef)]
+    level = imported + [node.name for node in source.tree.body if isinstance(node, (ast.FunctionDef, ast.ClassDef))]
+    if len(level) != len(set(level)):
+        yield "L15", 1
+    for node in source.of(ast.Name, ast.arg, ast.FunctionDef, ast.ClassDef):
+        name = getattr(node, "id", None) or getattr(node, "arg", None) or getattr(node, "name", None)
+        is_method = isinstance(node, ast.FunctionDef) and isinstance(source.parents[node], ast.ClassDef)
+        is_level = source.parents[node] is source.tree
+        is_bound = not isinstance(node, ast.Name) or isinstance(node.ctx, ast.Store)
+        if is_bound and not is_method and (name in TAKEN or name in UNUSED):
+            yield "L15", node.lineno
+        if is_bound and not is_method and not is_level and name in imported + classes:
+            yield "L15", node.lineno
+        if isinstance(node, ast.Name) and isinstance(node.ctx, ast.Load):
+            if name in TAKEN and name not in BUILTINS:
+                yield "L8", node.lineno
+            if name == "_":
+                yield "L12", node.lineno
+
+
+def statement_faults(source, known):
+    for node in source.of(ast.stmt):
+        if not isinstance(node, STATEMENTS):
+            yield "L6", node.lineno
+    for node in source.of(ast.FunctionDef):
+        if node.decorator_list or node.args.vararg or node.args.kwarg or node.returns:
+            yield "L4", node.lineno
+        for value in node.args.defaults + [one for one in node.args.kw_defaults if one is not None]:
+            if not isinstance(value, ast.Constant):
+                yield "L4", node.lineno
+    for node in source.of(ast.ExceptHandler):
+        if not isinstance(node.type, ast.Name) or (node.type.id in TAKEN and node.type.id != "KeyError"):
+            yield "L19", node.lineno
+    for node in source.of(ast.Raise):
+        is_made = isinstance(node.exc, ast.Call) and isinstance(node.exc.func, ast.Name)
+        if node.exc is not None and not is_made:
+            yield "L19", node.lineno
+    for node in source.of(ast.Yield):
+        if not isinstance(source.parents[node], ast.Expr):
+            yield "L23", node.lineno
+
+
+def expression_faults(source, known):
+    for node in source.of(ast.BinOp):
+        if isinstance(node.op, (ast.Div, ast.MatMult, ast.Pow)):
+            yield "L7", node.lineno
+    for node in source.of(ast.Compare):
+        for operator, side in zip(node.ops, node.comparators):
+            if isinstance(operator, (ast.Is, ast.IsNot)):
+                if not (isinstance(side, ast.Constant) and side.value in (None, True, False)):
+                    yield "L20", node.lineno
+    for node in source.of(ast.GeneratorExp):
+        parent = source.parents[node]
+        if not (isinstance(parent, ast.Call) and called_name(parent) in ("list", "tuple", "dict", "join")):
+            yield "L7", node.lineno
+    for node in source.of(ast.Await, ast.AsyncFor, ast.NamedExpr, ast.Starred, ast.JoinedStr):
+        if isinstance(node, ast.JoinedStr):
+            for part in node.values:
+                inner = part.value if isinstance(part, ast.FormattedValue) else None
+                if inner is not None and any(isinstance(one, (ast.Constant, ast.JoinedStr)) for one in ast.walk(inner)):
+                    yield "L27", node.lineno
+        else:
+            yield "L7", node.lineno
+
+
+def call_faults(source, known):
+    for node in source.of(ast.Call):
+        name = called_name(node)
+        told = {keyword.arg for keyword in node.keywords}
+        if isinstance(node.func, ast.Name) and name in TAKEN and told - KEYWORDS.get(name, set()):
+            yield "L22", node.lineno
+        if isinstance(node.func, ast.Attribute) and name in METHODS and (told or name == "sort"):
+            yield "L25", node.lineno
+        if not isinstance(node.func, (ast.Name, ast.Attribute)):
+            yield "L7", node.lineno
+        if any(isinstance(one, ast.Name) and one.id in BUILTINS - {"None"} for one in node.args) \
+                and name != "isinstance":
+            yield "L22", node.lineno
+
+
+def set_faults(source, known):
+    for node in source.nodes:
+        is_set = isinstance(node, (ast.Set, ast.SetComp))
+        if not is_set and not (isinstance(node, ast.Call) and called_name(node) in ("set", "frozenset")):
+            continue
+        parent = source.parents[node]
+        is_let = isinstance(parent, ast.Call) and called_name(parent) in ("sorted", "len") and not parent.keywords
+        if not is_let and not isinstance(parent, ast.Compare):
+            yield "L24", node.lineno
+
+
+def lazy_faults(source, known):
+    """Zips, ranges, views and calls of generators are iterated where they stand; a range may be kept."""
+    generators = {node.name for node in source.of(ast.FunctionDef)
+                  if any(isinstance(one, (ast.Yield, ast.YieldFrom)) for one in ast.walk(node))}
+    for node in source.of(ast.Call):
+        name = called_name(node)
+        if name not in LAZY | generators | {"range"}:
+            continue
+        parent = source.parents[node]
+        is_looped = isinstance(parent, (ast.For, ast.comprehension)) and parent.iter is node
+        is_taken = isinstance(parent, ast.Call) and called_name(parent) in (
+            "list", "tuple", "dict", "sorted", "sum", "enumerate", "zip", "min", "max", "reversed", "join",
+            "combinations", "permutations", "product")
+        is_kept = name == "range" and isinstance(parent, ast.Assign)
+        if not (is_looped or is_taken or is_kept):
+            yield "L23", node.lineno
+    for loop in source.of(ast.For):
+        if isinstance(loop.iter, ast.Name):
+            for node in ast.walk(loop):
+                if isinstance(node, ast.Call) and isinstance(node.func, ast.Attribute):
+                    changes = node.func.attr in ("append", "extend", "pop", "remove", "insert", "clear", "update")
+                    if changes and isinstance(node.func.value, ast.Name) and node.func.value.id == loop.iter.id:
+                        yield "L23", node.lineno

@@ -1,0 +1,116 @@
+import ast
+import importlib
+import inspect
+import os
+import tempfile
+import unittest
+
+from language import faults_of
+
+PACKAGE = os.path.join(os.path.dirname(os.path.dirname(os.path.abspath(__file__))), "rueless")
+
+INTERFACE = {
+    "errors": "RuelessError BadTrade BadHouse BadRow BadText BadWants BadShape BadRanking BadLooks BadOrder "
+              "PaperFault Refused BadMachine BadWord BadPrices BadSizes NotRueless CannotTake TooGreat NoLetter "
+              "NoStand NoRoom",
+    "relations": "Relation(many, asks, *, answers, start) .holds(x, y) .rank(x, y) .pairs() .strike(x, y) "
+                 ".answer(y, letter, x2) .needed(wanted) .strikes(wanted)",
+    "trades": "Trade(stands, comers, beats) .steps(letter) .step(stand, letter) .takes(stand, kind) "
+              "least_part(trade, stands) is_part(trade, value) all_parts(trade) cut_part(trade, part) "
+              "cut_kinds(trade, kinds) in_order(trade, order) side_by_side(one, other) runs_out(trade) "
+              "comer_ring(trade) most_comers(trade, stand)",
+    "houses": "house_of(trade, stands, *, places) is_house(trade, value) takers(trade, house, kind) "
+              "served(trade, house, kind, stand) beaten(trade, house, beat) moves_of(trade, house, letter) "
+              "merged(trade, house, other) with_stand(trade, house, stand) without_stand(trade, house, stand) "
+              "one_less(trade, house) is_bag_within(house, other) house_count(trade, places) "
+              "all_houses(trade, places) house_number(trade, house) numbered_house(trade, places, number) "
+              "reached_houses(trade, house)",
+    "places": "below(trade) is_below(trade, p, q) parting_row(trade, p, q) below_paper(trade, p, q) "
+              "holds_below(trade, p, q, value) alike_stands(trade) least_trade(trade) exchange_fault(trade, x, y) "
+              "exchanges(trade) stand_in_fault(trade, c, d) stand_ins(trade) left_out_fault(trade, c) "
+              "left_outs(trade) idle_stands(trade) covering(trade, house, other)",
+    "rows": "fronts(trade, house, row) front_of(trade, house, row) can_serve(trade, house, row) "
+            "longest_served(trade, house, row) serving_count(trade, house, row) some_serving(trade, house, row) "
+            "all_servings(trade, house, row) plays(trade, house, row, serving) "
+            "is_serving(trade, house, row, value) row_paper(trade, house, row) "
+            "holds_row(trade, house, row, value) rows_served(trade, house, letters)",
+    "dealings": "dealt_rows(trade, row, dealing) some_dealing(trade, house, other, row) "
+                "is_dealing(trade, house, other, row, value)",
+    "texts": "trade_text(trade) read_trade(text) house_text(house) read_house(trade, text)",
+    "twos": "Table(trade) .is_followed(x, y) .rank(x, y) .strike(x, y) .answer(y, letter, house) "
+            ".side(kind, p, q) .sides(kind) .better(kind, p, q)",
+    "verdict": "clashes(table) first_clash(table) is_rueless(table) need_rueless(table) "
+               "sure_choices(table, house, kind) is_sure(table, house)",
+    "strikes": "verdict_paper(table) is_closed(trade, value) check_verdict(trade, paper)",
+    "stewards": "Steward(table) .goes_ahead(kind, p, q) .ahead_pairs(kind) .choice(house, kind) "
+                ".set_choice(stands, kind) .after(house, letter) .walk(house, row) .serving(house, row) "
+                ".is_served(house, row) house_parting(steward, house, other) house_within(steward, house, other) "
+                "right_takers(steward, house, kind) lost_row(steward, house, kind, stand)",
+    "rankings": "ranked_choice(trade, house, kind, ranking) first_ranking(steward, kind) "
+                "count_rankings(steward, kind) nth_ranking(steward, kind, number) "
+                "ranking_number(steward, kind, ranking) ranking_loss(steward, kind, ranking) "
+                "first_ring(steward, kind) joint_ranking(steward) joint_ring(steward) "
+                "judged_ranking(table, kind, ranking, *, most) ranking_paper(steward, kind) joint_paper(steward) "
+                "loss_paper(table, kind, ranking, *, most) holds_ranking(trade, value) holds_joint(trade, value)",
+}
+
+BAD_FILES = {
+    "L5": "@property\nclass Box:\n    pass\n",
+    "L7": "def go(xs):\n    return any(x for x in xs)\n",
+    "L8": "def go(x):\n    return hash(x)\n",
+    "L10": "def go(x):\n" + "    x += 1\n" * 40,
+    "L14": "def go():\n    return '\u00e9'\n",
+    "L15": "def go(max):\n    return max\n",
+    "L16": "import os\n",
+    "L17": "def go(x):\n    return x.type\n",
+    "L18": "def go(x):\n    return x.nowhere\n",
+    "L19": "def go(x):\n    try:\n        x()\n    except Exception:\n        pass\n",
+    "L20": "def go(x, y):\n    return x is y\n",
+    "L22": "def go(x):\n    return go(len)\n",
+    "L23": "def go(x):\n    return zip(x, x)\n",
+    "L24": "def go(x):\n    return {y for y in x}\n",
+    "L25": "def go(x):\n    x.sort()\n",
+    "L27": "def go(x):\n    return '%s'\n",
+}
+
+
+def parameters(made):
+    told = inspect.signature(made).parameters.values()
+    names = [one.name for one in told if one.name != "self"]
+    only = [one.name for one in told if one.kind == one.KEYWORD_ONLY]
+    return ", ".join(names[:len(names) - len(only)] + (["*"] if only else []) + only)
+
+
+class LanguageTest(unittest.TestCase):
+    def test_the_package_keeps_the_rules_that_can_be_seen(self):
+        self.assertEqual(faults_of(PACKAGE), [])
+
+    def test_broken_rules_are_seen(self):
+        for rule, text in BAD_FILES.items():
+            with tempfile.TemporaryDirectory() as folder:
+                with open(os.path.join(folder, "bad.py"), "w", encoding="utf-8") as file:
+                    file.write(text)
+                self.assertIn(rule, [fault[0] for fault in faults_of(folder)], text)
+
+    def test_the_interface_stands_in_its_files(self):
+        for name, listed in INTERFACE.items():
+            module = importlib.import_module(f"rueless.{name}")
+            with open(module.__file__, encoding="utf-8") as file:
+                tree = ast.parse(file.read())
+            defined = {node.name: node for node in tree.body if isinstance(node, (ast.FunctionDef, ast.ClassDef))}
+            last = None
+            for word in listed.replace(", ", ",").replace(") ", ")\n").replace(" ", "\n").split("\n"):
+                told, _, names = word.replace(",", ", ").rstrip(")").partition("(")
+                if told.startswith("."):
+                    self.assertIn(told[1:], vars(last))
+                    made = vars(last)[told[1:]]
+                else:
+                    self.assertIn(told, defined)
+                    made = getattr(module, told)
+                    last = made
+                if name != "errors":
+                    self.assertEqual(parameters(made), names, told)
+
+
+if __name__ == "__main__":
+    unittest.main()
