@@ -16,10 +16,8 @@ def first_parting(table, house, other, most):
         rest = _unfollowed(table, moves.front(pair[0], letter), front)
         return (rest, front) if rest else None
 
-    rest = _unfollowed(table, (house,), (other,))
-    if not rest:
-        return None
-    return first_row((rest, (other,)), table.trade.letters, lead, lambda pair: pair[1] == (), most)
+    start = (_unfollowed(table, (house,), (other,)), (other,))
+    return first_row(start, table.trade.letters, lead, lambda pair: pair[1] == (), most)
 
 
 def _unfollowed(table, front, other):

@@ -101,8 +101,6 @@ class Walker:
             # Like houses serve the same rows.
             return None if one == two else (one, two)
 
-        if house == other:
-            return None
         return first_row((house, other), self._steward.trade.letters, lead, lambda pair: pair[1] is None)
 
 

@@ -80,16 +80,12 @@ def _are_sides(trade, value):
     told = [(kind, p, q) for kind in trade.kinds for p, q in _two_takers(trade, kind)]
     if not is_tuple_of(value, len(told)) or not all([is_tuple_of(side, 4) for side in value]):
         return False
-    return all([is_same(side[:3], one) and _is_word(side[3]) for side, one in zip(value, told)])
+    return all([is_same(side[:3], one) and side[3] in WORDS for side, one in zip(value, told)])
 
 
 def _two_takers(trade, kind):
     stands = taking_stands(trade, kind)
     return [(p, q) for p in stands for q in stands if p < q]
-
-
-def _is_word(value):
-    return isinstance(value, str) and value in WORDS
 
 
 def _check_rueless(trade, sides, value):

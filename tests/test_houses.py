@@ -132,6 +132,8 @@ class PlacesTest(Case):
         self.fails(BadHouse(6), merged, TIDE.trade, [0] * 3, [2] * 4)
         self.fails(BadHouse(4), merged, LONG.trade, [0] * 3, [2] * 2)
         self.assertSame(self.agrees(with_stand, trade=TIDE.trade, house=[2, 0], stand=1), (0, 1, 2))
+        self.assertSame(with_stand(TIDE.trade, [1] * 5, 0), (0, 1, 1, 1, 1, 1))
+        self.assertSame(with_stand(LONG.trade, [1] * 3, 7), (1, 1, 1, 7))
         self.fails(BadHouse(6), with_stand, TIDE.trade, [0] * 6, 1)
         self.fails(BadHouse(4), with_stand, LONG.trade, [0] * 4, 1)
         for value in no_stands(TIDE):
@@ -157,6 +159,8 @@ class PlacesTest(Case):
         self.fails(BadHouse(1), is_bag_within, [0], [0, 10])
         self.fails(BadHouse(6), is_bag_within, [0] * 7, ())
         self.fails(BadHouse(4), is_bag_within, [0], [9] * 5)
+        self.fails(BadHouse(4), is_bag_within, [0], [6, 0, 0, 0, 0])
+        self.assertIs(is_bag_within([5] * 6, [5] * 6), True)
 
     def test_all_houses_and_their_numbers(self):
         for spec, most in ((STILL, 6), (TIDE, 6), (LONG, 4), (ending_spec(random.Random(1), 10, "a"), 4)):

@@ -110,6 +110,8 @@ class LanguageTest(unittest.TestCase):
                     last = made
                 if name != "errors":
                     self.assertEqual(parameters(made), names, told)
+                    if "most" in names:
+                        self.assertEqual(inspect.signature(made).parameters["most"].default, 20000)
 
 
 if __name__ == "__main__":

@@ -90,9 +90,10 @@ class BelowTest(Case):
         self.assertIs(holds_below(TIDE.trade, 0, 1, ("parts", "000" * 66 + "0b")), False)
         self.assertIs(holds_below(TIDE.trade, 0, 1, ("parts", "000" * 66 + "a")), True)
         self.assertIs(holds_below(TIDE.trade, 0, 1, ("parts", "000" * 67 + "a")), False)
-        for value in ANY + [("parts",), ("parts", "b", 0), ["parts", "b"], ("below", "b"), ("below", ()), ("x", "b")]:
+        for value in ANY + [("parts",), ("parts", "b", 0), ["parts", "b"], ("below", "b"), ("below", ()), ("x", "b"), ("x", ((0, 1), (2, 2)))]:
             self.assertIs(holds_below(ROOMS.trade, 1, 0, value), False)
             self.assertIs(holds_below(ROOMS.trade, 0, 1, ("below", value)), False)
+            self.assertIs(holds_below(ROOMS.trade, 0, 1, value), False)
 
     def test_alike_stands_and_least_trade(self):
         for spec in trades(18, 40):

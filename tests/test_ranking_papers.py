@@ -175,7 +175,7 @@ class HoldsJointTest(PaperCase):
         self.assertIs(holds_joint(JOINT.trade, (word, ring * 2, rows * 2)), True)
         for bent in (ring[:1], ring + ring[:1], list(ring), (), ((1, "b"), (2, "a")), ((1, "a"), (2, "x")), ((1, "a"), 2),
                      ((1, "a"), [2, "b"]), ((True, "a"), (2, "b")), ((1, "a"), (0, "b")), ((1, "a"), (4, "b")),
-                     ((3, "a"), (2, "b")), ((1, "a"), (2, "b", 0))):
+                     ((3, "a"), (2, "b")), ((1, "a"), (2, "b", 0)), ((3, "b"), (2, "a"))):
             self.assertIs(holds_joint(JOINT.trade, (word, bent, rows)), False)
             self.assertIs(holds_joint(JOINT.trade, (word, bent, rows[:len(bent)])), False)
         for bent in ((), rows[:1], rows[::-1], list(rows), rows + ("",), ("", ""), ("x", "x"), (5, 5)):

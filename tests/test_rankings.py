@@ -175,6 +175,8 @@ class RingTest(Case):
         self.assertTrue({None, 2, 3} <= found)
         self.assertSame(joint_ring(Steward(Table(JOINT.trade))), ((1, "a"), (2, "b")))
         self.assertSame(joint_ranking(Steward(Table(SILENT.trade))), ())
+        spec = Spec(3, {"a": [2, 2, 2], "b": [0, 0, 0], "c": [0, None, 2], "d": [1, 1, 2]}, {"0": [2, 0, 1]})
+        self.assertSame(joint_ring(Steward(Table(spec.trade))), ((0, "b"), (1, "d")))
 
 
 class JudgedTest(Case):

@@ -123,6 +123,8 @@ class StewardTest(Case):
                 self.fails(NoLetter(value), call, [2], value)
             self.fails(NoLetter(value), steward.goes_ahead, value, "x", "x")
             self.fails(NoLetter(value), steward.ahead_pairs, value)
+            self.fails(NoLetter(value), steward.set_choice, [], value)
+            self.fails(NoLetter(value), steward.choice, (), value)
         for call in (steward.walk, steward.serving, steward.is_served):
             for value in NO_STRINGS:
                 self.fails(BadRow(-1), call, [0], value)

@@ -222,6 +222,7 @@ class CheckTest(Case):
                          ((rows[0][:2] + ("b", (2, 2)), rows[1]), 1), ((rows[0], rows[1][:2] + ("x", (2, 2))), 2),
                          ((list(rows[0]), rows[1]), 0), ((rows[0], rows[1], list(rows[0])), 3),
                          ((((0, 2), (True, 2), "a", (2, 2)), rows[1]), 0), ((rows[0] + (5,), rows[1]), 1),
+                         ((rows[0][:2] + ("a", (2,)), rows[1][:3] + (5,)), 2),
                          (rows + (((0, 2), (0, 2), "a", (2, 2)),), 3), (rows + (((0,), (1,), "a", (2,)),), 3)):
             self.fails(PaperFault(at), check_verdict, CROSSED.trade, (word, kind, p, q, bent))
 
@@ -237,6 +238,11 @@ class CheckTest(Case):
             self.fails(PaperFault(0), check_verdict, CROSSED.trade, (word, kind, p, q, value))
         self.fails(PaperFault(0), check_verdict, CROSSED.trade, (word, kind, q, p, rows))
         self.fails(PaperFault(0), check_verdict, CROSSED.trade, (word, "a", p, q, rows))
+        self.fails(PaperFault(0), check_verdict, CROSSED.trade, (word, "b", p, q, rows))
+        for stand in (0, 1):
+            same = CROSSED.moves((stand, stand), "c") * 2
+            more = (tuple(same) + ("a", (2, 2)),)
+            self.fails(PaperFault(0), check_verdict, CROSSED.trade, (word, kind, stand, stand, more + rows))
         self.fails(PaperFault(0), check_verdict, CROSSED.trade, (word, kind, p, q, list(rows)))
 
     def test_values_that_are_no_papers(self):
@@ -244,6 +250,8 @@ class CheckTest(Case):
         for value in ANY + [(), told[1:], told + ((),), list(told), ("Rueful",) + told[1:], ("rueless",) + told[1:],
                             ("rueful", (), ())]:
             self.fails(PaperFault(0), check_verdict, CROSSED.trade, value)
+        self.fails(PaperFault(0), check_verdict, STILL.trade, ("rueful", (), ()))
+        self.fails(PaperFault(0), check_verdict, STILL.trade, ("x", (), ()))
         for trade in (STILL.trade, SILENT.trade, Trade(1, {"a": [0]}), Trade(2, {"a": [1, None]})):
             self.assertIsNone(check_verdict(trade, ("rueless", (), ())))
             for value in ANY:

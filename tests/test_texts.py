@@ -35,7 +35,7 @@ class TradeTextTest(Case):
             self.fails(BadText(1), read_trade, line)
             self.fails(BadText(1), read_trade, line + "\nx")
         for line in ("", "a", "a ", "a 0 1", "a 0 1 2 0", "a 0 1 3", "a 0 1 -1", "a 0  1 2", "a 0 1 2 ", " a 0 1 2",
-                     "e 0 1 2", "ab 0 1 2", "A 0 1 2", "2 0 1 2", "0 0 - 1", "1 - - -", "a 0 01 2", "a 0 1 --", "a 0 1 x",
+                     "e 0 1 2", "ab 0 1 2", "A 0 1 2", "2 0 1 2", "0 0 - 1", "1 - - -", "a 0 01 2", "a 3 1 2", "a x 1 2", "a  0 1", "a - x -", "0 3 0 0", "a 0 1 --", "a 0 1 x",
                      "a\t0 1 2", "a 0 1 2\r", "0 1 2", "a 0 1 None", "a 0 1 \u0662", "a 0 1 1.0"):
             self.fails(BadText(2), read_trade, "stands 3\n" + line)
             self.fails(BadText(2), read_trade, "stands 3\n" + line + "\nx")

@@ -83,6 +83,7 @@ class TradeTest(Case):
     def test_equality(self):
         made = Trade(2, {"a": [1, None]}, {"0": [1, 0]})
         self.assertEqual(made, Trade(2, {"a": (1, None)}, {"0": (1, 0)}))
+        self.assertNotEqual(Trade(2, {}), Trade(3, {}))
         for other in (Trade(3, {"a": [1, None, 0]}, {"0": [1, 0, 0]}), Trade(2, {"b": [1, None]}, {"0": [1, 0]}),
                       Trade(2, {"a": [1, None]}, {"1": [1, 0]}), Trade(2, {"a": [1, 0]}, {"0": [1, 0]}),
                       Trade(2, {"a": [1, None]}), 2, None, "a", (2,), [made]):
