@@ -1,6 +1,5 @@
 """Stewards of rueless trades, who see the house alone and never lose a row."""
 
-from rueless.errors import CannotTake
 from rueless.houses import house_of, served
 from rueless.moves import beat_move, comer_choices
 from rueless.rows import need_row

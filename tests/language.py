@@ -128,6 +128,8 @@ def import_faults(source, known):
                 yield "L2", node.lineno
         elif node.module not in known or alias.name not in known[node.module].defined():
             yield "L16", node.lineno
+        if alias.name not in {name.id for name in source.of(ast.Name)}:
+            yield "not used", node.lineno
 
 
 def ring_faults(known):
