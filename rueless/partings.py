@@ -1,7 +1,9 @@
-"""The first row that one house serves and another one does not, in any trade."""
+"""Rows that part two houses: the one serves them and the other one does not. In any trade."""
 
 from rueless.moves import Moves
-from rueless.search import first_row
+from rueless.rows import can_serve, is_row
+from rueless.search import first_row, first_row_among
+from rueless.weighing import two_choices
 
 
 def first_parting(table, house, other, most):
@@ -25,4 +27,32 @@ def _unfollowed(table, front, other):
 
     What is followed parts no row, and neither does anything that rows lead it to: it may be left out.
     """
-    return tuple([one for one in front if not any([table.holds(one, two) for two in other])])
+    return tuple([one for one in front if not any([table.weighing.holds(one, two) for two in other])])
+
+
+def first_row_beside(moves, house, other, most, is_followed):
+    """The first row that a house serves and another one does not, or None, by the moves of their trade.
+
+    The houses may have different numbers of places. TooGreat(most) comes only if there are more than so many
+    pairs of a house to which a row leads the one and of the front of that row for the other one.
+    is_followed(one, two) tells, at least of like houses, that two serves all rows of one.
+    """
+    def leads(pair, letter):
+        front = moves.front(pair[1], letter)
+        bags = moves.behind(pair[0], letter)
+        return [(bag, front) for bag in bags if not any([is_followed(bag, one) for one in front])]
+
+    start = [] if is_followed(house, other) else [(house, (other,))]
+    return first_row_among(start, moves.trade.letters, leads, lambda pair: pair[1] == (), most)
+
+
+def first_choice_row(table, kind, p, q, most):
+    """The first row that two takers serve behind giving the kind to p, not behind giving it to q, or None."""
+    first, second = two_choices(table.trade, kind, p, q)
+    return first_row_beside(Moves(table.trade), first, second, most, lambda one, two: table.weighing.holds(one, two))
+
+
+def is_parting(trade, kind, p, q, value):
+    """Whether any value is a row that two takers serve behind giving the kind to p, not behind giving it to q."""
+    first, second = two_choices(trade, kind, p, q)
+    return is_row(trade.letters, value) and can_serve(trade, first, value) and not can_serve(trade, second, value)

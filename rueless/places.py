@@ -6,21 +6,12 @@ from rueless.houses import house_of
 from rueless.plain import is_number_below, is_same, is_tuple_of
 from rueless.rows import is_row, row_rank
 from rueless.search import first_row, reached
-from rueless.trades import need_kind, need_letter, need_stand, renumbered
+from rueless.trades import need_kind, need_letter, need_stand, renumbered, stand_behind
 
 
 def _need_two(trade, p, q):
     need_stand(trade, p)
     need_stand(trade, q)
-
-
-def _behind(trade, stand, row):
-    """The stand that a row leads a place to, None if the place does not serve it."""
-    for letter in row:
-        if stand is None:
-            return None
-        stand = trade.step(stand, letter)
-    return stand
 
 
 def _first_parting(trade, one, other):
@@ -70,8 +61,8 @@ def holds_below(trade, p, q, value):
         return False
     word, told = value
     if is_same(word, "parts"):
-        return (is_row(trade.letters, told) and _behind(trade, p, told) is not None
-                and _behind(trade, q, told) is None)
+        return (is_row(trade.letters, told) and stand_behind(trade, p, told) is not None
+                and stand_behind(trade, q, told) is None)
     return is_same(word, "below") and _is_closed_with(trade, (p, q), told)
 
 
@@ -130,8 +121,8 @@ def _head_fault(trade, head, other_head, is_both_ways):
     If it goes both ways, the second alone will do.
     """
     for stand in range(trade.stands):
-        one = _behind(trade, stand, head)
-        other = _behind(trade, stand, other_head)
+        one = stand_behind(trade, stand, head)
+        other = stand_behind(trade, stand, other_head)
         rests = [_first_parting(trade, one, other)]
         if is_both_ways:
             rests.append(_first_parting(trade, other, one))

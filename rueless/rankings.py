@@ -3,16 +3,15 @@
 from rueless.errors import BadRanking, Refused
 from rueless.houses import house_of
 from rueless.orderings import Orders, least_order, least_ring
-from rueless.partings import first_parting
+from rueless.partings import first_parting, is_parting
 from rueless.plain import is_number, is_number_below, is_same, is_sequence, is_sign, is_tuple_of
-from rueless.rows import can_serve, is_row
 from rueless.stewards import house_parting
 from rueless.strikes import is_closed
 from rueless.trades import need_kind
-from rueless.twos import taking_stands, two_choices
+from rueless.weighing import taking_stands, two_choices
 
 
-def _all_takers(trade):
+def all_takers(trade):
     """The stands that take some kind, ascending."""
     return [stand for stand in range(trade.stands) if any([trade.takes(stand, kind) for kind in trade.kinds])]
 
@@ -51,17 +50,17 @@ def ranked_choice(trade, house, kind, ranking):
     return None
 
 
-def _ahead_of(steward, kind):
+def ahead_of(steward, kind):
     return {pair: True for pair in steward.ahead_pairs(kind)}
 
 
 def _orders_of(steward, kind):
     """All rankings of the kind that serve."""
-    return Orders(tuple(taking_stands(steward.trade, kind)), _ahead_of(steward, kind))
+    return Orders(tuple(taking_stands(steward.trade, kind)), ahead_of(steward, kind))
 
 
 def first_ranking(steward, kind):
-    return least_order(taking_stands(steward.trade, kind), _ahead_of(steward, kind))
+    return least_order(taking_stands(steward.trade, kind), ahead_of(steward, kind))
 
 
 def count_rankings(steward, kind):
@@ -99,8 +98,8 @@ def first_ring(steward, kind):
 def joint_ranking(steward):
     ahead = {}
     for kind in steward.trade.kinds:
-        ahead.update(_ahead_of(steward, kind))
-    return least_order(_all_takers(steward.trade), ahead)
+        ahead.update(ahead_of(steward, kind))
+    return least_order(all_takers(steward.trade), ahead)
 
 
 def joint_ring(steward):
@@ -142,10 +141,10 @@ def _round_steps(steps):
     return [(kind, p, q) for (p, kind), (q, _) in zip(steps, steps[1:] + steps[:1])]
 
 
-def _ring_rows(steward, steps):
-    """For each step the first row that tells that its stand goes ahead of the next one."""
+def step_rows(steward, ways):
+    """For each (kind, p, q) the first row that tells that p goes ahead of q."""
     rows = []
-    for kind, p, q in _round_steps(steps):
+    for kind, p, q in ways:
         first, second = two_choices(steward.trade, kind, p, q)
         rows.append(house_parting(steward, first, second))
     return tuple(rows)
@@ -154,19 +153,19 @@ def _ring_rows(steward, steps):
 def ranking_paper(steward, kind):
     ranking = first_ranking(steward, kind)
     if ranking is not None:
-        relation = steward.table.needed_houses(_ranked_pairs(steward.trade, kind, ranking))
+        relation = steward.table.weighing.needed_houses(_ranked_pairs(steward.trade, kind, ranking))
         return ("ranking", kind, ranking, relation)
     ring = first_ring(steward, kind)
-    return ("ring", kind, ring, _ring_rows(steward, [(stand, kind) for stand in ring]))
+    return ("ring", kind, ring, step_rows(steward, _round_steps([(stand, kind) for stand in ring])))
 
 
 def joint_paper(steward):
     ranking = joint_ranking(steward)
     if ranking is not None:
-        relation = steward.table.needed_houses(_jointly_ranked_pairs(steward.trade, ranking))
+        relation = steward.table.weighing.needed_houses(_jointly_ranked_pairs(steward.trade, ranking))
         return ("joint ranking", ranking, relation)
     ring = joint_ring(steward)
-    return ("joint ring", ring, _ring_rows(steward, list(ring)))
+    return ("joint ring", ring, step_rows(steward, _round_steps(list(ring))))
 
 
 def loss_paper(table, kind, ranking, *, most=20000):
@@ -177,37 +176,31 @@ def loss_paper(table, kind, ranking, *, most=20000):
     return ("ranking loss", kind, tuple(ranking), p, q, row)
 
 
-def _is_relation(trade, pairs, value):
+def is_relation(trade, pairs, value):
     """Whether any value is a closed relation with all of these pairs."""
     return is_closed(trade, value) and all([pair in value for pair in pairs])
 
 
-def _is_parting(trade, kind, p, q, value):
-    """Whether any value is a row that two takers serve behind giving the kind to p, not behind giving it to q."""
-    first, second = two_choices(trade, kind, p, q)
-    return is_row(trade.letters, value) and can_serve(trade, first, value) and not can_serve(trade, second, value)
-
-
-def _is_taker(trade, stand, kind):
+def is_taker(trade, stand, kind):
     """Whether any value is a stand that takes a kind."""
     return is_number_below(stand, trade.stands) and trade.takes(stand, kind)
 
 
 def _is_ring(trade, steps, rows):
     """Whether any rows show that the stand of each step, (stand, kind), goes ahead of the next one."""
-    if not steps or not is_tuple_of(rows, len(steps)) or not all([_is_taker(trade, p, kind) for p, kind in steps]):
+    if not steps or not is_tuple_of(rows, len(steps)) or not all([is_taker(trade, p, kind) for p, kind in steps]):
         return False
     ways = _round_steps(steps)
-    if not all([_is_taker(trade, q, kind) for kind, _, q in ways]):
+    if not all([is_taker(trade, q, kind) for kind, _, q in ways]):
         return False
-    return all([_is_parting(trade, kind, p, q, row) for (kind, p, q), row in zip(ways, rows)])
+    return all([is_parting(trade, kind, p, q, row) for (kind, p, q), row in zip(ways, rows)])
 
 
 def _is_loss(trade, kind, told):
     ranking, p, q, row = told
     if not _is_ranking(taking_stands(trade, kind), ranking):
         return False
-    return any([is_same((p, q), pair) for pair in _two_of(ranking)]) and _is_parting(trade, kind, q, p, row)
+    return any([is_same((p, q), pair) for pair in _two_of(ranking)]) and is_parting(trade, kind, q, p, row)
 
 
 def holds_ranking(trade, value):
@@ -222,7 +215,7 @@ def holds_ranking(trade, value):
         return _is_ring(trade, [(stand, kind) for stand in things], shown)
     if not is_same(word, "ranking") or not _is_ranking(taking_stands(trade, kind), things):
         return False
-    return _is_relation(trade, _ranked_pairs(trade, kind, things), shown)
+    return is_relation(trade, _ranked_pairs(trade, kind, things), shown)
 
 
 def holds_joint(trade, value):
@@ -232,6 +225,6 @@ def holds_joint(trade, value):
     if is_same(word, "joint ring"):
         are_pairs = all([is_tuple_of(step, 2) and is_sign(step[1], trade.kinds) for step in things])
         return are_pairs and _is_ring(trade, list(things), shown)
-    if not is_same(word, "joint ranking") or not _is_ranking(_all_takers(trade), things):
+    if not is_same(word, "joint ranking") or not _is_ranking(all_takers(trade), things):
         return False
-    return _is_relation(trade, _jointly_ranked_pairs(trade, things), shown)
+    return is_relation(trade, _jointly_ranked_pairs(trade, things), shown)

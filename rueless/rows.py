@@ -76,11 +76,11 @@ def rows_served(trade, house, letters):
                 stack.append((row + letter, behind))
 
 
-def _good_houses(trade, house, row):
-    """For each beginning of a row the houses of its front that serve the rest of the row."""
+def _good_houses(trade, house, row, is_end):
+    """For each beginning of a row the houses of its front that serve the rest of the row and come to an end."""
     moves = Moves(trade)
     found = fronts(trade, house, row)
-    good = [{one: True for one in found[-1]}]
+    good = [{one: True for one in found[-1] if is_end(one)}]
     for letter, front in zip(row[::-1], found[-2::-1]):
         ahead = good[-1]
         good.append({one: True for one in front if any([behind in ahead for behind in moves.behind(one, letter)])})
@@ -97,8 +97,13 @@ def _with_stand(serving, stand):
 
 
 def some_serving(trade, house, row):
+    return serving_to(trade, house, row, lambda one: True)
+
+
+def serving_to(trade, house, row, is_end):
+    """The first serving of the whole row that leads to a house that is an end, or None."""
     house = house_of(trade, house)
-    good = _good_houses(trade, house, row)
+    good = _good_houses(trade, house, row, is_end)
     if house not in good[0]:
         return None
     serving = ()
@@ -128,7 +133,7 @@ def _counts_behind(trade, counts, letter):
 
 def all_servings(trade, house, row):
     house = house_of(trade, house)
-    good = _good_houses(trade, house, row)
+    good = _good_houses(trade, house, row, lambda one: True)
     stack = [(0, house, ())] if house in good[0] else []
     while stack:
         at, now, serving = stack.pop()
@@ -181,7 +186,7 @@ def is_serving(trade, house, row, value):
     return True
 
 
-def _refusal(trade, house, row):
+def refusal(trade, house, row):
     """The fronts up to the first empty one, this one too, of a row that is not served."""
     found = fronts(trade, house, row)
     return found[:found.index(()) + 1]
@@ -191,7 +196,7 @@ def row_paper(trade, house, row):
     serving = some_serving(trade, house, row)
     if serving is not None:
         return ("serving", serving)
-    return ("refusal", _refusal(trade, house, row))
+    return ("refusal", refusal(trade, house, row))
 
 
 def holds_row(trade, house, row, value):
@@ -200,4 +205,4 @@ def holds_row(trade, house, row, value):
         return False
     if is_same(value[0], "serving"):
         return is_serving(trade, house, row, value[1])
-    return not is_served and is_same(value, ("refusal", _refusal(trade, house, row)))
+    return not is_served and is_same(value, ("refusal", refusal(trade, house, row)))

@@ -93,19 +93,29 @@ def need_stands(trade, stands):
         need_stand(trade, stand)
 
 
-def _next_stands(trade, stand):
+def stand_behind(trade, stand, row):
+    """The stand that a row leads a place to, None if the place does not serve it."""
+    for letter in row:
+        if stand is None:
+            return None
+        stand = trade.step(stand, letter)
+    return stand
+
+
+def next_stands(trade, stand):
+    """The stands that letters lead a place to."""
     steps = [trade.step(stand, letter) for letter in trade.letters]
     return [behind for behind in steps if behind is not None]
 
 
 def least_part(trade, stands):
     need_stands(trade, stands)
-    return tuple(sorted(reached(stands, lambda stand: _next_stands(trade, stand))))
+    return tuple(sorted(reached(stands, lambda stand: next_stands(trade, stand))))
 
 
 def _is_kept(trade, stands):
     """Whether all letters keep within these stands."""
-    return all([behind in stands for stand in stands for behind in _next_stands(trade, stand)])
+    return all([behind in stands for stand in stands for behind in next_stands(trade, stand)])
 
 
 def is_part(trade, value):

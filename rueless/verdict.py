@@ -7,10 +7,7 @@ from rueless.search import reached
 
 
 def clashes(table):
-    found = []
-    for kind in table.trade.kinds:
-        found.extend([(kind, p, q) for p, q, side in table.sides(kind) if side == "none"])
-    return tuple(found)
+    return table.weighing.clashes()
 
 
 def first_clash(table):

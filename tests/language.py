@@ -93,7 +93,7 @@ def faults_of(folder):
                 faults.append(("L25", source.name, node.lineno))
             if not is_call and node.attr not in assigned:
                 faults.append(("L18", source.name, node.lineno))
-    faults += [("L26", name, 0) for name in sorted((methods | assigned) & VALUE_NAMES - {"__init__", "__eq__"})
+    faults += [("L26", name, 0) for name in sorted((methods | assigned) & VALUE_NAMES - {"__init__", "__eq__", "__len__"})
                if name not in METHODS]
     faults += [("L18", name, 0) for name in sorted(methods & assigned)]
     return faults + ring_faults(known)
@@ -196,7 +196,8 @@ def statement_faults(source, known):
             if not isinstance(value, ast.Constant):
                 yield "L4", node.lineno
     for node in source.of(ast.ExceptHandler):
-        if not isinstance(node.type, ast.Name) or (node.type.id in TAKEN and node.type.id != "KeyError"):
+        caught = node.type.elts if isinstance(node.type, ast.Tuple) else [node.type]
+        if not all(isinstance(one, ast.Name) and one.id not in TAKEN - {"KeyError"} for one in caught):
             yield "L19", node.lineno
     for node in source.of(ast.Raise):
         is_made = isinstance(node.exc, ast.Call) and isinstance(node.exc.func, ast.Name)
