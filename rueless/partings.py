@@ -30,6 +30,36 @@ def _unfollowed(table, front, other):
     return tuple([one for one in front if not any([table.weighing.holds(one, two) for two in other])])
 
 
+class _Met:
+    """The pairs of a house and a front that a search has met."""
+
+    def __init__(self):
+        self._bits = {}
+        self._masks = {}
+        self._least = {}
+
+    def _mask_of(self, front):
+        """The front as the bits of a number, so that one lies in another one if it shares all its bits."""
+        if front not in self._masks:
+            mask = 0
+            for house in front:
+                mask |= self._bits.setdefault(house, 1 << len(self._bits))
+            self._masks[front] = mask
+        return self._masks[front]
+
+    def is_new(self, house, front):
+        """Whether no pair was met, by earlier rows, of this house and a front that lies in this one.
+
+        What parts the house from the greater front parts it from the lesser one, too.
+        """
+        mask = self._mask_of(front)
+        least = self._least.get(house, [])
+        if any([one & mask == one for one in least]):
+            return False
+        self._least[house] = [one for one in least if one & mask != mask] + [mask]
+        return True
+
+
 def first_row_beside(moves, house, other, most, is_followed):
     """The first row that a house serves and another one does not, or None, by the moves of their trade.
 
@@ -37,13 +67,20 @@ def first_row_beside(moves, house, other, most, is_followed):
     pairs of a house to which a row leads the one and of the front of that row for the other one.
     is_followed(one, two) tells, at least of like houses, that two serves all rows of one.
     """
+    met = _Met()
+
+    def is_open(pair):
+        bag, front = pair
+        return not any([is_followed(bag, one) for one in front]) and met.is_new(bag, front)
+
     def leads(pair, letter):
         front = moves.front(pair[1], letter)
-        bags = moves.behind(pair[0], letter)
-        return [(bag, front) for bag in bags if not any([is_followed(bag, one) for one in front])]
+        pairs = [(bag, front) for bag in moves.behind(pair[0], letter)]
+        return [one for one in pairs if front == () or is_open(one)]
 
-    start = [] if is_followed(house, other) else [(house, (other,))]
-    return first_row_among(start, moves.trade.letters, leads, lambda pair: pair[1] == (), most)
+    start = [(house, (other,))]
+    return first_row_among([one for one in start if is_open(one)], moves.trade.letters, leads,
+                           lambda pair: pair[1] == (), most)
 
 
 def first_choice_row(table, kind, p, q, most):

@@ -67,14 +67,15 @@ class Single:
         if not self.is_rueless():
             raise Refused(0)
         letters = self._trade.letters
-        steps = {self.house: True}
+        steps = {self.house: ()}
         queue = [self.house]
         while queue:
             house = queue.pop()
-            steps[house] = tuple([self._way(house, letter) for letter in letters])
-            for way in steps[house]:
+            ways = tuple([self._way(house, letter) for letter in letters])
+            steps[house] = ways
+            for way in ways:
                 if way is not None and way[1] not in steps:
-                    steps[way[1]] = True
+                    steps[way[1]] = ()
                     queue.append(way[1])
         told = tuple([(house, steps[house]) for house in sorted(list(steps))])
         pairs = [(behind, way[1]) for house, ways in told for letter, way in zip(letters, ways) if way is not None
