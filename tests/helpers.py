@@ -1,10 +1,13 @@
 """What the tests share: slow and plain ways to work out what the program says, and checks of calls."""
 
 import copy
+import inspect
 import itertools
 import random
 import unittest
 
+from rueless.errors import PaperFault
+from rueless.machines import Machine
 from rueless.relations import Relation
 from rueless.trades import Trade
 from rueless.twos import Table
@@ -133,6 +136,16 @@ def choices(spec, kind, p, q):
     return tuple(sorted((pc, q))), tuple(sorted((p, qc)))
 
 
+def fault_of(call, *told):
+    """The number of the PaperFault that a check raises, None if it raises none."""
+    try:
+        result = call(*told)
+    except PaperFault as fault:
+        return fault.at
+    assert result is None
+    return None
+
+
 def random_house(dice, spec, most=3):
     return tuple(sorted(dice.randrange(spec.stands) for _ in range(dice.randrange(most + 1))))
 
@@ -157,7 +170,7 @@ STILL = Spec(2, {})
 
 ANY = [None, True, False, -1, 0, 1, 2, 7, 10 ** 20, "", "a", "0", "ab", "x", "a0", (), [], (0,), [0], (True,), [None],
        ("a",), ["a", "b"], (0, 1), [1, 0], ((0, 1), (0, 1)), [[]], ("rueless", (), ()), deep(0, 70), TIDE.trade,
-       Table(ROOMS.trade), Relation(0, ()), (TIDE.trade,), [0, TIDE.trade]]
+       Table(ROOMS.trade), Relation(0, ()), (TIDE.trade,), [0, TIDE.trade], Machine("a", [[0]])]
 
 
 def same(one, other):
@@ -167,6 +180,54 @@ def same(one, other):
     if isinstance(one, (list, tuple)):
         return len(one) == len(other) and all(same(x, y) for x, y in zip(one, other))
     return one == other
+
+
+def is_plain(value):
+    """Whether a value has only what papers are made of: tuples, strings, integers and None."""
+    if type(value) is tuple:
+        return all(is_plain(one) for one in value)
+    return value is None or type(value) in (str, int)
+
+
+def is_shown_by(slow, spec, *told):
+    """Whether a slow check of values holds; it may fail in any way if their form is wrong."""
+    try:
+        return is_plain(told) and bool(slow(spec, *told))
+    except (TypeError, ValueError, IndexError, KeyError, AttributeError):
+        return False
+
+
+def bend(dice, value):
+    """A value that is bent at one place, mostly deep within."""
+    if type(value) is tuple and value and dice.random() < 0.85:
+        at = dice.randrange(len(value))
+        turn = dice.randrange(12)
+        if turn == 0:
+            return value[:at] + value[at + 1:]
+        if turn == 1:
+            return value[:at] + value[at:at + 1] + value[at:]
+        if turn == 2:
+            other = dice.randrange(len(value))
+            turned = list(value)
+            turned[at], turned[other] = turned[other], turned[at]
+            return tuple(turned)
+        return value[:at] + (bend(dice, value[at]),) + value[at + 1:]
+    if type(value) is int and dice.random() < 0.6:
+        return dice.choice([value + 1, value - 1, bool(value)])
+    if type(value) is str and dice.random() < 0.6:
+        letter = dice.choice("abcd01")
+        return dice.choice([value + letter, letter + value, value[1:], value[:-1], letter])
+    if type(value) is tuple and dice.random() < 0.4:
+        return list(value)
+    return dice.choice(ANY)
+
+
+def bends(dice, value, many):
+    """The value itself and values that are bent at one place or two."""
+    yield value
+    for _ in range(many):
+        bent = bend(dice, value)
+        yield bent if dice.random() < 0.8 else bend(dice, bent)
 
 
 def has_list(value):
@@ -213,8 +274,8 @@ class Case(unittest.TestCase):
         before = copy.deepcopy({name: value for name, value in named.items() if isinstance(value, (list, dict))})
         result = call(**named)
         self.assertFalse(has_list(result), result)
-        only = {name for name in named if name in ("places", "most") and call.__name__ in ("house_of", "judged_ranking",
-                                                                                          "loss_paper")}
+        parameters = inspect.signature(call).parameters
+        only = {name for name in named if parameters[name].kind == inspect.Parameter.KEYWORD_ONLY}
         told = {name: named[name] for name in only}
         values = [value for name, value in named.items() if name not in only]
         for turn in (tuple, list):
