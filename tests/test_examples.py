@@ -4,6 +4,22 @@ import doctest
 import os
 import unittest
 
+OVERVIEW = '''
+    >>> from rueless.rows import can_serve
+    >>> from rueless.stories import least_story
+    >>> from rueless.texts import read_trade
+    >>> from rueless.twos import Table
+    >>> from rueless.verdict import clashes, is_rueless
+    >>> good = read_trade("stands 3\\na 2 2 -\\nb - 2 -")
+    >>> bad = read_trade("stands 3\\na 2 - -\\nb - 2 -\\nc 2 2 -")
+    >>> is_rueless(Table(good)), is_rueless(Table(bad)), clashes(Table(bad))
+    (True, False, (('c', 0, 1),))
+    >>> can_serve(bad, [0, 1], "ca"), can_serve(bad, [0, 1], "cb")
+    (True, True)
+    >>> least_story(Table(bad))
+    ('c', 0, 1, 'b', 'a')
+'''
+
 DEALINGS = '''
     >>> from rueless.dealings import some_dealing
     >>> from rueless.places import parting_row
@@ -40,24 +56,52 @@ STEWARDS = '''
     ((3, (0, 1)), (0, (0, 0)))
 '''
 
-# The example of the overview without its lines on stories.
-OVERVIEW = '''
-    >>> from rueless.rows import can_serve
-    >>> from rueless.texts import read_trade
+MACHINES = '''
+    >>> from rueless.counts import count_rows, numbered_row
+    >>> from rueless.growths import growth
+    >>> from rueless.machines import bag_machine
+    >>> from rueless.trades import Trade
     >>> from rueless.twos import Table
-    >>> from rueless.verdict import clashes, is_rueless
-    >>> good = read_trade("stands 3\\na 2 2 -\\nb - 2 -")
-    >>> bad = read_trade("stands 3\\na 2 - -\\nb - 2 -\\nc 2 2 -")
-    >>> is_rueless(Table(good)), is_rueless(Table(bad)), clashes(Table(bad))
-    (True, False, (('c', 0, 1),))
-    >>> can_serve(bad, [0, 1], "ca"), can_serve(bad, [0, 1], "cb")
-    (True, True)
+    >>> table = Table(Trade(3, {"a": (2, 2, None), "b": (None, 2, None)}))
+    >>> machine, houses = bag_machine(table, (0, 1))
+    >>> houses, machine.ways
+    (((0, 1), (1, 2), (0, 2), (2, 2)), ((1, 2), (3, 3), (3, None), (None, None)))
+    >>> count_rows(machine, 2), growth(machine), numbered_row(machine, 4)
+    (3, ('ends', 2), 'ab')
+'''
+
+SINGLE = '''
+    >>> from rueless.single import Single, foe_tree
+    >>> from rueless.stories import least_story
+    >>> from rueless.trades import Trade
+    >>> from rueless.twos import Table
+    >>> trade = Trade(4, {"a": (3, None, None, None), "b": (None, 3, None, None), "c": (3, 3, 2, None)})
+    >>> table = Table(trade)
+    >>> least_story(table), foe_tree(table, (0, 1))
+    (('c', 0, 1, 'b', 'a'), ('c', ((0, 'row', 1, 'a'), (1, 'row', 0, 'b'))))
+    >>> single = Single(table, (0, 1, 2))
+    >>> single.is_rueless(), single.choice((0, 1, 2), "c")
+    (True, 2)
+'''
+
+HOMES = '''
+    >>> from rueless.homes import Homes
+    >>> from rueless.lots import first_sets, is_rueless_lot, lot_clashes
+    >>> from rueless.trades import Trade
+    >>> from rueless.twos import Table
+    >>> tide = Table(Trade(3, {"a": (2, None, None), "b": (None, 2, None), "c": (2, 2, None)}, {"0": (1, 0, 2)}))
+    >>> lot_clashes(tide, (0, 1)), is_rueless_lot(tide, (0,)), first_sets(tide)
+    ((('c', 0, 1),), True, ((0, 2), (1, 2)))
+    >>> sink = Trade(4, {"a": (None, None, 2, None), "c": (2, 3, None, None)})
+    >>> homes = Homes(sink, (0, 1, 3))
+    >>> Table(sink).side("c", 0, 1), homes.side("c", 0, 1), homes.walk((0, 1), "ccc")
+    ('first', 'second', (2, (2, 3), False))
 '''
 
 
 class ExamplesTest(unittest.TestCase):
     def test_examples(self):
-        for text in (OVERVIEW, DEALINGS, STRIKES, STEWARDS):
+        for text in (OVERVIEW, DEALINGS, STRIKES, STEWARDS, MACHINES, SINGLE, HOMES):
             told = doctest.DocTestParser().get_doctest(text, {}, "example", None, 0)
             self.assertGreater(len(told.examples), 5)
             self.assertEqual(doctest.DocTestRunner(verbose=False).run(told).failed, 0)

@@ -52,7 +52,45 @@ INTERFACE = {
                 "first_ring(steward, kind) joint_ranking(steward) joint_ring(steward) "
                 "judged_ranking(table, kind, ranking, *, most) ranking_paper(steward, kind) joint_paper(steward) "
                 "loss_paper(table, kind, ranking, *, most) holds_ranking(trade, value) holds_joint(trade, value)",
+    "looks": "looks_loss(steward, kind, looks, order) fewest_looks(steward, kind) joint_looks(steward) "
+             "longest_chain(steward, kind) joint_chain(steward) looks_paper(steward, kind) chain_paper(steward, kind) "
+             "holds_looks(trade, value)",
+    "stories": "least_row(table, house, other, *, most) parting_paper(table, house, other, row) "
+               "parting_holds(trade, value) two_partings(table, kind, first, second, *, most) "
+               "story_of(table, kind, first, second, *, most) all_stories(table, *, most) least_story(table, *, most) "
+               "story_kinds(story) story_paper(table, story) story_holds(trade, value)",
+    "single": "Single(table, house, *, pairs) .is_rueless() .is_followed(one, other) .choice(house, kind) .walk(row) "
+              ".paper() single_holds(trade, house, value) right_choices(table, house, kind, *, most) "
+              "twos_tell(table, house) foe_tree(table, house, *, most) foe_depth(table, house, *, most) "
+              "foe_paper(table, house, *, most) tree_holds(trade, house, value)",
+    "cores": "is_rueful_part(table, part) all_cores(table) core_of(table, house) core_paper(table, part) "
+             "core_holds(trade, value)",
+    "heedless": "is_heedless(table) heedless_kinds(table, *, most) is_heedless_house(table, house, *, pairs) "
+                "first_careless(table, *, most) heedless_paper(table, *, most) heedless_holds(trade, value)",
+    "machines": "Machine(letters, ways, *, first) .step(state, letter) .started(state) .after(row) .reads(row) "
+                ".beginning(row) .after_pieces(pieces) most_times(machine, row) bag_machine(table, house) "
+                "size_machine(table, places) front_machine(trade, house, *, most) machine_paper(table, house) "
+                "machine_holds(trade, house, value)",
+    "counts": "count_rows(machine, length) count_upto(machine, length) row_number(machine, row) "
+              "numbered_row(machine, number) longest_row(machine)",
+    "growths": "growth(machine) growth_paper(machine) growth_holds(machine, value)",
+    "twins": "first_difference(one, other) row_beside(one, other) state_classes(machine, *, letters) "
+             "class_depth(machine) least_machine(machine) is_least(machine) alike_houses(table, places) "
+             "many_states(trade, house, *, most) states_holds(trade, house, value)",
+    "opening": "Growing(steward, store) .come(letter) fewest_places(steward, store, row) late_pairs(steward, store) "
+               "late_fault(steward, store) late_holds(trade, store, value)",
+    "lots": "lot_pairs(table, firsts) pair_way(table, firsts, house) lot_houses(table, firsts, places) "
+            "lot_clashes(table, firsts) is_rueless_lot(table, firsts) first_couples(table) first_sets(table) "
+            "lot_paper(table, firsts) check_lot(trade, firsts, paper)",
+    "homes": "Homes(trade, ends) .home_row(house) .home_houses(places) .ends_home(house, row) .is_followed(x, y) "
+             ".side(kind, p, q) .clashes() .is_rueless() .choice(house, kind) .walk(house, row) .home_paper() "
+             "rueless_ends(trade) check_homes(trade, ends, paper)",
+    "parties": "Parties(trade, sizes) .word_moves(house, word) .word_takers(house, word) .word_fronts(house, row) "
+               ".is_served(house, row) .some_serving(house, row) .side(kind, p, q) .clashes() .is_rueless() "
+               ".levels(house, kind) .choice(house, word) .is_good_choice(house, word, stands) .walk(house, row) "
+               ".party_paper() word_gap(trade, sizes) check_parties(trade, sizes, paper)",
 }
+MOST = {"front_machine": 2000, "many_states": 2000}
 
 BAD_FILES = {
     "L5": "@property\nclass Box:\n    pass\n",
@@ -110,8 +148,9 @@ class LanguageTest(unittest.TestCase):
                     last = made
                 if name != "errors":
                     self.assertEqual(parameters(made), names, told)
-                    if "most" in names:
-                        self.assertEqual(inspect.signature(made).parameters["most"].default, 20000)
+                    defaults = {name: one.default for name, one in inspect.signature(made).parameters.items()}
+                    self.assertEqual(defaults.get("most", 20000), MOST.get(told, 20000))
+                    self.assertEqual(defaults.get("pairs", 5000), 5000)
 
 
 if __name__ == "__main__":
