@@ -3,7 +3,7 @@
 from rueless.errors import Refused, TooGreat
 from rueless.graphs import Graph
 from rueless.plain import is_number, is_number_below
-from rueless.rows import MOST_LETTERS, need_row
+from rueless.rows import MOST_LETTERS
 
 
 def _counts_behind(machine, counts):
@@ -42,7 +42,6 @@ def count_upto(machine, length):
 
 
 def row_number(machine, row):
-    need_row(machine.letters, row)
     read = machine.beginning(row)
     if read < len(row):
         raise Refused(read)

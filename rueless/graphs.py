@@ -8,7 +8,7 @@ class Graph:
 
     def __init__(self, machine):
         self._machine = machine
-        self.states = sorted(reached([machine.first], lambda state: self.ahead(state)))
+        self.states = reached([machine.first], lambda state: self.ahead(state))
         self.component = _components(self.states, {state: self.ahead(state) for state in self.states})
 
     def ahead(self, state):

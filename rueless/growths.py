@@ -80,7 +80,7 @@ def _ring_levels(graph):
 
 def _led(machine, state, value):
     """The state to which any value, as a row of any length, leads a state; None if it is none or is not read."""
-    if state is None or not isinstance(value, str) or not all([sign in machine.letters for sign in value]):
+    if not isinstance(value, str) or not all([sign in machine.letters for sign in value]):
         return None
     return walked(machine, state, value)
 

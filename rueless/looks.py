@@ -38,11 +38,11 @@ def _need_looks_and_order(trade, kind, looks, order):
 
 
 def _open_pairs(trade, kind, looks, order):
-    """The (p, q), ascending, of unlike takers that a comer may be given to p: its look is earlier, or that of q."""
+    """The (p, q), ascending, of takers so that p may be given a comer: its look is earlier, or that of q."""
     stands = taking_stands(trade, kind)
     earliness = {look: at for at, look in enumerate(order)}
     early = {stand: earliness[looks[stand]] for stand in stands}
-    return [(p, q) for p in stands for q in stands if p != q and early[p] <= early[q]]
+    return [(p, q) for p in stands for q in stands if early[p] <= early[q]]
 
 
 def looks_loss(steward, kind, looks, order):

@@ -250,8 +250,6 @@ def _is_right_step(trade, houses, ways, letter, value, pairs):
     chosen, number = value
     if not any([is_same(chosen, stand) and houses[number] == behind for stand, behind in ways]):
         return False
-    if chosen is None:
-        return True
 
     def is_step(q, p):
         second, first = _step_pair(trade, letter, q, p)

@@ -38,9 +38,9 @@ class Single:
     def choice(self, house, kind):
         house = self._bag(house, 0)
         need_kind(self._trade, kind)
-        way = self._way(house, kind)
-        if way is None and not comer_choices(self._trade, house, kind):
+        if not comer_choices(self._trade, house, kind):
             raise CannotTake(kind)
+        way = self._way(house, kind)
         return None if way is None else way[0]
 
     def _way(self, house, letter):
@@ -78,7 +78,7 @@ class Single:
                     steps[way[1]] = ()
                     queue.append(way[1])
         told = tuple([(house, steps[house]) for house in sorted(list(steps))])
-        pairs = [(behind, way[1]) for house, ways in told for letter, way in zip(letters, ways) if way is not None
+        pairs = [(behind, way[1]) for house, ways in told for letter, way in zip(letters, ways)
                  for behind in self._bags.moves.behind(house, letter)]
         return ("single", self.house, self._bags.needed_houses(pairs), told)
 

@@ -84,7 +84,8 @@ def faults_of(folder):
                 if isinstance(node.ctx, ast.Store)}
     for source in sources:
         for check in (text_faults, import_faults, size_faults, level_faults, name_faults, statement_faults,
-                      expression_faults, call_faults, set_faults, lazy_faults):
+                      expression_faults, call_faults, set_faults, lazy_faults, loop_faults, lambda_faults,
+                      nested_faults):
             for rule, line in check(source, known):
                 faults.append((rule, source.name, line))
         for node in source.of(ast.Attribute):
@@ -280,3 +281,55 @@ def lazy_faults(source, known):
                     changes = node.func.attr in ("append", "extend", "pop", "remove", "insert", "clear", "update")
                     if changes and isinstance(node.func.value, ast.Name) and node.func.value.id == loop.iter.id:
                         yield "L23", node.lineno
+
+
+def root_of(node):
+    """The name at the root of an attribute, an item or a call of a method, None if there is none."""
+    while isinstance(node, (ast.Attribute, ast.Subscript, ast.Call)):
+        node = node.func if isinstance(node, ast.Call) else node.value
+    return ast.unparse(node) if isinstance(node, ast.Name) else None
+
+
+def loop_faults(source, known):
+    """What a loop goes over is not assigned to by items in the loop."""
+    for loop in source.of(ast.For):
+        over = {root_of(node) for node in ast.walk(loop.iter)} - {None, "self", "list", "tuple", "sorted"}
+        for row in loop.body:
+            for node in ast.walk(row):
+                is_item = isinstance(node, ast.Subscript) and isinstance(node.ctx, (ast.Store, ast.Del))
+                if is_item and root_of(node) in over:
+                    yield "L23", node.lineno
+
+
+def lambda_faults(source, known):
+    """No two lambdas with the same parameters begin on one line."""
+    seen = set()
+    for node in source.of(ast.Lambda):
+        key = (node.lineno, ast.unparse(node.args))
+        if key in seen:
+            yield "L13", node.lineno
+        seen.add(key)
+
+
+def assigned_in(function):
+    """The names that a function binds itself: parameters, targets, and loops, but not those of comprehensions."""
+    found = {one.arg for one in ast.walk(function.args) if isinstance(one, ast.arg)}
+    inner = [node for node in ast.walk(function)
+             if isinstance(node, (ast.FunctionDef, ast.Lambda, ast.ListComp, ast.SetComp, ast.DictComp, ast.GeneratorExp))
+             and node is not function]
+    hidden = {id(one) for node in inner for one in ast.walk(node)}
+    return found | {node.id for node in ast.walk(function)
+                    if isinstance(node, ast.Name) and isinstance(node.ctx, ast.Store) and id(node) not in hidden}
+
+
+def nested_faults(source, known):
+    """In a nested function no comprehension binds a name that the function around it binds."""
+    for function in source.of(ast.FunctionDef):
+        outer = assigned_in(function)
+        for inner in ast.walk(function):
+            if isinstance(inner, (ast.FunctionDef, ast.Lambda)) and inner is not function:
+                for node in ast.walk(inner):
+                    if isinstance(node, ast.comprehension):
+                        names = {one.id for one in ast.walk(node.target) if isinstance(one, ast.Name)}
+                        if names & outer:
+                            yield "L7", inner.lineno

@@ -15,7 +15,9 @@ from rueless.verdict import is_rueless
 # Four clashes, and a core for each of them.
 TWICE = Spec(6, {"a": [4, None, 5, None, None, None], "b": [None, 4, None, 5, None, None],
                  "c": [4, 4, 5, 5, None, None]})
-TOLD = [CROSSED, RING, ROOMS, SILENT, STILL, TIDE, TWICE]
+# Of the greatest parts within its core the first one has more stands than the second one.
+UNLIKE = Spec(5, {"a": [None, None, None, None, 2], "b": [None, None, None, 0, None], "c": [None, 3, None, 1, 4]})
+TOLD = [UNLIKE, CROSSED, RING, ROOMS, SILENT, STILL, TIDE, TWICE]
 
 
 def slow_parts(spec):
@@ -103,7 +105,7 @@ def slow_core(spec, paper):
 
 class CorePaperTest(Case):
     def papers(self, seed, many):
-        for spec in specs(seed, many, stands=(3, 4), kinds=("ab", "abc"), empty=0.6) + [CROSSED, TWICE]:
+        for spec in specs(seed, many, stands=(3, 4), kinds=("ab", "abc"), empty=0.6) + [CROSSED, TWICE, UNLIKE]:
             for core in slow_cores(spec):
                 yield spec, core, core_paper(Table(spec.trade), core)
 
@@ -118,6 +120,8 @@ class CorePaperTest(Case):
             self.assertIs(self.agrees(core_holds, trade=spec.trade, value=paper), True)
             self.assertTrue(is_shown_by(slow_core, spec, paper))
         self.assertTrue({0, 1, 2} <= many)
+        self.assertSame([rest for rest, _ in core_paper(Table(UNLIKE.trade), (0, 1, 2, 3, 4))[3]],
+                        [(0, 1, 2, 3), (0, 2, 4)])
 
     def test_bent_papers(self):
         dice = random.Random(404)

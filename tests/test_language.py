@@ -97,6 +97,7 @@ BAD_FILES = {
     "L7": "def go(xs):\n    return any(x for x in xs)\n",
     "L8": "def go(x):\n    return hash(x)\n",
     "L10": "def go(x):\n" + "    x += 1\n" * 40,
+    "L13": "def go(x):\n    return x(lambda y: y, lambda y: -y)\n",
     "L14": "def go():\n    return '\u00e9'\n",
     "L15": "def go(max):\n    return max\n",
     "L16": "import os\n",

@@ -116,6 +116,11 @@ class MachineTest(Case):
             self.assertSame(ring.after_pieces([("", most), ["aa", most], ("aaa", most)]), 2 * most % 3)
             self.assertSame(ring.after_pieces([("a", 1), ("b", most), ("a", most)]), (1 + most) % 3)
             self.assertSame(ring.after_pieces((("b", most),)), None)
+        # A beginning that comes once, then a ring of three.
+        tailed = Machine("a", [[1], [2], [3], [4], [2]])
+        for times in list(range(12)) + [10 ** 18 - one for one in range(4)]:
+            self.assertSame(tailed.after_pieces([("a", times)]), times if times < 2 else 2 + (times - 2) % 3)
+            self.assertSame(tailed.after_pieces([("aa", times)]), 2 * times if times < 1 else 2 + (2 * times - 2) % 3)
         self.assertSame((ring.after_pieces([]), ring.after_pieces([("b", 0)]), ring.after_pieces([("aab", 1)])),
                         (0, 0, None))
         self.assertSame(ring.started(3).after_pieces([("ab" * 100, 10 ** 18)]), 3)

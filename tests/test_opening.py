@@ -97,6 +97,10 @@ class GrowingTest(Case):
                 self.fails(Refused(stand), call, steward, stand)
             self.fails(Refused(stand), fewest_places, steward, stand, None)
             self.fails(Refused(stand), late_holds, TIDE.trade, stand, None)
+        for value in no_stands(ROOMS):
+            for call in (Growing, late_pairs, late_fault):
+                self.fails(NoStand(value), call, Steward(Table(ROOMS.trade)), value)
+            self.fails(NoStand(value), late_holds, ROOMS.trade, value, None)
         two = Spec(2, {"a": [1, 0]}, {"0": [0, 1], "1": [0, 0]})
         self.assertSame(Growing(Steward(Table(two.trade)), 0).opened, 0)
         self.fails(Refused(1), Growing, Steward(Table(two.trade)), 1)

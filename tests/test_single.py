@@ -266,6 +266,9 @@ class SinglePaperTest(Case):
                 self.assertIs(single_holds(KEPT.trade, (0, 1, 2), paper[:at] + (value,) + paper[at + 1:]), False)
         self.assertIs(single_holds(STILL.trade, (), ("single", (), (), (((), ()),))), True)
         self.assertIs(single_holds(STILL.trade, (), ("single", (), (), ())), False)
+        # A bag with another number of places.
+        self.assertIs(single_holds(STILL.trade, (0,), ("single", (0,), (), (((0,), ()), ((1,), ())))), True)
+        self.assertIs(single_holds(STILL.trade, (0,), ("single", (0,), (), (((0,), ()), ((0, 1), ())))), False)
 
 
 class ChoicesTest(Case):
@@ -461,6 +464,10 @@ class FoeTest(Case):
                      ("c", ((0, "row", True, "a"), (1, "row", 0, "b"))), ("c", list(clash[1])),
                      ("c", ((0, "row", 1, "a" + "0" * 200), (1, "row", 0, "b"))), ("x", clash[1])):
             self.assertIs(tree_holds(spec.trade, (0, 1), ("foe", (0, 1), bent)), False, bent)
+        for branch in ((), (0,), (0, "on"), (0, "row"), (0, "row", 1), (0, "row", 1, "a", "a"), (0, "on", clash, clash),
+                       (0, "row", None, "a"), (0, "down", clash)):
+            self.assertIs(tree_holds(spec.trade, (0, 1), ("foe", (0, 1), ("c", (branch, clash[1][1])))), False)
+        self.assertIs(tree_holds(spec.trade, (2, 4), ("foe", (2, 4), ("a", ()))), False)
         self.assertIs(tree_holds(spec.trade, (0, 1), ("foe", (0, 1), ("c", ((0, "row", 1, "a" + "0" * 199),
                                                                              clash[1][1])))), True)
 

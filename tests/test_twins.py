@@ -250,6 +250,11 @@ class ManyStatesTest(Case):
         word, rows, partings = paper
         self.assertIs(states_holds(spec.trade, (0, 1), (word, rows[:-1], tuple(
             one for one in partings if one[1] < len(rows) - 1))), False)
+        # A row that is not served is parted from all others by the empty row.
+        lost = [row for row in spec.rows(6) if not spec.serves((0, 1), row)][0]
+        last = len(rows) - 1
+        bent = (word, rows[:-1] + (lost,), tuple(one if one[1] < last else (one[0], last, "") for one in partings))
+        self.assertIs(states_holds(spec.trade, (0, 1), bent), False)
         for value in NO_SEQUENCES:
             self.fails(BadHouse(-1), many_states, spec.trade, value, most=1)
             self.fails(BadHouse(-1), states_holds, spec.trade, value, None)
