@@ -76,7 +76,7 @@ def first_row_beside(moves, house, other, most, is_followed):
     def leads(pair, letter):
         front = moves.front(pair[1], letter)
         pairs = [(bag, front) for bag in moves.behind(pair[0], letter)]
-        return [one for one in pairs if front == () or is_open(one)]
+        return [one for one in pairs if is_open(one)]
 
     start = [(house, (other,))]
     return first_row_among([one for one in start if is_open(one)], moves.trade.letters, leads,

@@ -169,7 +169,7 @@ def is_strike(trade, letters, value):
     """Whether any value has the form of a strike by one of these letters; it need not hold."""
     if not is_tuple_of(value, 4) or not _is_pair_of_twos(trade, value[:2]):
         return False
-    return isinstance(value[2], str) and value[2] in list(letters) and is_house(trade, value[3])
+    return value[2] in list(letters) and is_house(trade, value[3])
 
 
 def check_strikes(rows, is_formed, moves, is_free):

@@ -93,7 +93,6 @@ def _side_word(is_first, is_second):
 
 def taking_stands(trade, kind):
     """The stands that take a kind, ascending."""
-    need_kind(trade, kind)
     return [stand for stand in range(trade.stands) if trade.takes(stand, kind)]
 
 

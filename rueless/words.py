@@ -43,7 +43,7 @@ def short_words(words):
 
 
 def need_word(words, value):
-    if not isinstance(value, str) or value not in words:
+    if value not in words:
         raise BadWord(-1)
 
 
@@ -52,7 +52,7 @@ def need_word_row(words, value):
     if not is_sequence(value):
         raise BadWord(-1)
     for at, word in enumerate(value):
-        if not isinstance(word, str) or word not in words:
+        if word not in words:
             raise BadWord(at)
     if len(value) > MOST_WORDS:
         raise BadWord(MOST_WORDS)

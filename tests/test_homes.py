@@ -255,6 +255,7 @@ class HomesTest(Case):
         for value in no_letters("ac"):
             self.fails(NoLetter(value), homes.side, value, None, None)
             self.fails(NoLetter(value), homes.choice, [0], value)
+        self.fails(NoLetter("0"), Homes(TIDE.trade, ()).choice, [0], "0")
         self.fails(CannotTake("a"), homes.side, "a", 0, 2)
         self.fails(CannotTake("c"), homes.side, "c", 1, 2)
         for value in NO_STRINGS:

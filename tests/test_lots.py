@@ -117,6 +117,8 @@ class LotTest(Case):
             self.assertSame(self.agrees(first_sets, table=table), greatest)
         self.assertIn(((),), found)
         self.assertSame(first_sets(Table(EBB.trade)), ((0, 2), (1, 2)))
+        parted = Spec(3, {"a": [2, None, None], "b": [None, 1, 0], "c": [None, None, 2]})
+        self.assertSame(first_sets(Table(parted.trade)), ((0, 2), (1,)))
         greater = ending_spec(random.Random(12), 10, "ab", "0")
         table = Table(greater.trade)
         couples = first_couples(table)
@@ -302,10 +304,10 @@ class LotPaperTest(Case):
                     self.fails(PaperFault(0), check_lot, spec.trade, firsts, ("lot", less) + paper[2:])
             else:
                 for row in spec.rows(4):
-                    for start in itertools.combinations_with_replacement(sorted(set(firsts)), 2):
+                    for start in itertools.combinations_with_replacement(range(spec.stands), 2):
                         for serving, way in spec.servings(start, row):
                             bent = ("lot rueful", start, row, serving) + paper[4:]
-                            told = None if way[-1] == paper[5:7] else 0
+                            told = None if way[-1] == paper[5:7] and set(start) <= set(firsts) else 0
                             self.assertEqual(fault_of(check_lot, spec.trade, firsts, bent), told)
                 self.assertIsNone(check_lot(spec.trade, firsts, paper[:7] + (paper[7] * 2,)))
 

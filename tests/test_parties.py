@@ -9,6 +9,8 @@ from rueless.houses import is_house
 from rueless.parties import Parties, check_parties, word_gap
 from rueless.twos import Table
 
+# For c 1 is as good as 0 and as 2, and yet 0 is better than 2.
+MINGLED = Spec(3, {"a": [None, 1, 2], "b": [2, 1, 2], "c": [1, 2, 0]})
 TOLD = [CROSSED, RING, ROOMS, SILENT, STILL, TIDE]
 # Three levels of stands for a; and one that comes round in a ring.
 LEVELS = Spec(5, {"a": [4, 4, 4, 4, None], "b": [None, 4, 4, 4, None], "c": [None, None, None, 4, None]})
@@ -274,6 +276,10 @@ class PartiesVerdictTest(Case):
                 longest = max(at for at in range(len(row) + 1) if words.front(house, row[:at]))
                 self.assertEqual(served, longest)
         self.assertTrue({0, 1, 2, 3} <= many)
+        mingled = Parties(MINGLED.trade)
+        self.assertSame((mingled.side("c", 0, 1), mingled.side("c", 1, 2), mingled.side("c", 0, 2)),
+                        ("both", "both", "first"))
+        self.assertSame((mingled.levels((0, 1, 2), "c"), mingled.levels((0, 2, 2), "c")), (((0, 1, 2),), ((0,), (2,))))
 
     def test_good_choices(self):
         dice = random.Random(499)
@@ -327,6 +333,7 @@ class PartiesVerdictTest(Case):
             self.fails(NoStand(value), parties.side, "a", value, None)
             self.fails(NoStand(value), parties.side, "a", 2, value)
             self.fails(BadHouse(1), parties.levels, [0, value], None)
+        self.fails(NoLetter("0"), Parties(TIDE.trade).levels, (0,), "0")
         self.fails(CannotTake("a"), parties.side, "a", 0, 2)
         self.fails(CannotTake("b"), parties.side, "b", 0, 1)
         rueful = Parties(CROSSED.trade)

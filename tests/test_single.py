@@ -154,6 +154,7 @@ class SingleTest(Case):
         self.fails(BadHouse(0), single.choice, [3], None)
         for value in no_letters("abc"):
             self.fails(NoLetter(value), single.choice, [2, 0], value)
+        self.fails(NoLetter("0"), Single(Table(TIDE.trade), (0,)).choice, [0], "0")
         self.fails(CannotTake("b"), single.choice, [2, 0], "b")
         for one in (single, rueful):
             for value in without(ANY, lambda value: isinstance(value, str)):
@@ -458,7 +459,8 @@ class FoeTest(Case):
         clash = ("c", ((0, "row", 1, "0a0"), (1, "row", 0, "0b")))
         self.assertIs(tree_holds(spec.trade, [1, 0], ("foe", (0, 1), clash)), True)
         self.assertIs(tree_holds(spec.trade, (0, 1), ("foe", (0, 1), ("0", ((None, "on", clash),)))), True)
-        for bent in (("0", ((0, "on", clash),)), ("0", ((None, "row", 0, "a"),)), ("0", ()), ("d", ()), ("c", ()),
+        for bent in (("0", ((0, "on", clash),)), ("0", ((None, "on", clash, clash),)), ("0", ((None, "on"),)),
+                     ("0", ((None, "row", 0, "a"),)), ("0", ()), ("d", ()), ("c", ()),
                      ("c", clash[1][:1]), ("c", clash[1][::-1]), ("c", clash[1] + clash[1][1:]),
                      ("c", ((0, "row", 0, "a"), (1, "row", 0, "b"))), ("c", ((0, "row", 2, "a"), (1, "row", 0, "b"))),
                      ("c", ((0, "row", True, "a"), (1, "row", 0, "b"))), ("c", list(clash[1])),
