@@ -30,7 +30,7 @@ def _unfollowed(table, front, other):
     return tuple([one for one in front if not any([table.weighing.holds(one, two) for two in other])])
 
 
-class _Met:
+class Met:
     """The pairs of a house and a front that a search has met."""
 
     def __init__(self):
@@ -67,7 +67,7 @@ def first_row_beside(moves, house, other, most, is_followed):
     pairs of a house to which a row leads the one and of the front of that row for the other one.
     is_followed(one, two) tells, at least of like houses, that two serves all rows of one.
     """
-    met = _Met()
+    met = Met()
 
     def is_open(pair):
         bag, front = pair

@@ -29,9 +29,13 @@ WORDS = ("type typing typing_extensions enum Enum IntEnum StrEnum Flag IntFlag G
 UNUSED = set("register mro elements open input law version_info with_traceback add_note attrgetter breakpoint "
              "builtins compile copyright credits delattr dir eval exec exit gc getattr globals hasattr help id "
              "importlib license locals methodcaller os quit setattr super type vars sys".split())
+SPECIAL = {"__init__", "__eq__", "__len__"}
 LAZY = {"zip", "enumerate", "reversed", "items", "keys", "values", "map"}
 KEYWORDS = {"sorted": {"key", "reverse"}, "min": {"key", "default"}, "max": {"key", "default"},
             "sum": {"start"}, "enumerate": {"start"}, "zip": {"strict"}}
+# Names that begin so, or are just so, are those of other programs.
+BARRED_STARTS = re.compile("_wall|_pe_|_dcw_|_enum_|_cm_|_twin_re_|_lay_|_law_|_stub_|_sre|_WallAttr")
+BARRED_NAMES = re.compile("(_cold|_tuplegetter|_outside|_record|_written_out|_member_names)[0-9_]*")
 STATEMENTS = (
     ast.Assign, ast.AugAssign, ast.AnnAssign, ast.If, ast.While, ast.For, ast.Return, ast.Break, ast.Continue,
     ast.Pass, ast.Raise, ast.Assert, ast.Delete, ast.Nonlocal, ast.Match, ast.With, ast.Expr, ast.Try,
@@ -85,7 +89,7 @@ def faults_of(folder):
     for source in sources:
         for check in (text_faults, import_faults, size_faults, level_faults, name_faults, statement_faults,
                       expression_faults, call_faults, set_faults, lazy_faults, loop_faults, lambda_faults,
-                      nested_faults):
+                      nested_faults, plain_name_faults):
             for rule, line in check(source, known):
                 faults.append((rule, source.name, line))
         for node in source.of(ast.Attribute):
@@ -94,7 +98,7 @@ def faults_of(folder):
                 faults.append(("L25", source.name, node.lineno))
             if not is_call and node.attr not in assigned:
                 faults.append(("L18", source.name, node.lineno))
-    faults += [("L26", name, 0) for name in sorted((methods | assigned) & VALUE_NAMES - {"__init__", "__eq__", "__len__"})
+    faults += [("L26", name, 0) for name in sorted((methods | assigned) & VALUE_NAMES - SPECIAL)
                if name not in METHODS]
     faults += [("L18", name, 0) for name in sorted(methods & assigned)]
     return faults + ring_faults(known)
@@ -184,6 +188,21 @@ def name_faults(source, known):
                 yield "L8", node.lineno
             if name == "_":
                 yield "L12", node.lineno
+
+
+def plain_name_faults(source, known):
+    """Names of ASCII letters, figures and _, with at most one _ ahead; those of classes begin with a letter."""
+    told = [(node, node.name) for node in source.of(ast.ClassDef, ast.FunctionDef)]
+    told += [(node, node.id) for node in source.of(ast.Name)] + [(node, node.arg) for node in source.of(ast.arg)]
+    told += [(node, node.attr) for node in source.of(ast.Attribute)]
+    told += [(node, alias.name) for node, alias in source.imports()]
+    told += [(node, node.arg) for node in source.of(ast.keyword) if node.arg is not None]
+    for node, name in told:
+        is_plain = name == "_" or re.fullmatch("_?[A-Za-z][A-Za-z0-9_]*", name) or name in SPECIAL
+        if not is_plain or BARRED_STARTS.match(name) or BARRED_NAMES.fullmatch(name):
+            yield "L12", node.lineno
+        if isinstance(node, ast.ClassDef) and not name[0].isalpha():
+            yield "L12", node.lineno
 
 
 def statement_faults(source, known):

@@ -97,6 +97,7 @@ BAD_FILES = {
     "L7": "def go(xs):\n    return any(x for x in xs)\n",
     "L8": "def go(x):\n    return hash(x)\n",
     "L10": "def go(x):\n" + "    x += 1\n" * 40,
+    "L12": "class _Box:\n    pass\n",
     "L13": "def go(x):\n    return x(lambda y: y, lambda y: -y)\n",
     "L14": "def go():\n    return '\u00e9'\n",
     "L15": "def go(max):\n    return max\n",
@@ -124,12 +125,32 @@ class LanguageTest(unittest.TestCase):
     def test_the_package_keeps_the_rules_that_can_be_seen(self):
         self.assertEqual(faults_of(PACKAGE), [])
 
+    def rules_broken_by(self, text):
+        with tempfile.TemporaryDirectory() as folder:
+            with open(os.path.join(folder, "bad.py"), "w", encoding="utf-8") as file:
+                file.write(text)
+            return [fault[0] for fault in faults_of(folder)]
+
     def test_broken_rules_are_seen(self):
         for rule, text in BAD_FILES.items():
-            with tempfile.TemporaryDirectory() as folder:
-                with open(os.path.join(folder, "bad.py"), "w", encoding="utf-8") as file:
-                    file.write(text)
-                self.assertIn(rule, [fault[0] for fault in faults_of(folder)], text)
+            self.assertIn(rule, self.rules_broken_by(text), text)
+
+    def test_names_that_are_not_plain_are_seen(self):
+        texts = ["class _Met:\n    pass\n", "class __Met:\n    pass\n", "def __go():\n    return 1\n",
+                 "def go(__x):\n    return 1\n", "_wall_x = 1\n", "_sre2 = 1\n", "_cold_1 = 1\n",
+                 "def go(x):\n    x.__y = 1\n", "def go(f):\n    return f(__x=1)\n"]
+        for text in texts:
+            self.assertIn("L12", self.rules_broken_by(text), text)
+        for text in ["class Met:\n    pass\n", "def _go(_x):\n    return _x\n", "_COLD_1 = 1\n"]:
+            self.assertEqual(self.rules_broken_by(text), [], text)
+
+    def test_a_bent_name_of_a_class_is_seen_in_each_module(self):
+        for name in sorted(os.listdir(PACKAGE)):
+            if name.endswith(".py"):
+                with open(os.path.join(PACKAGE, name), encoding="utf-8") as file:
+                    text = file.read()
+                found = self.rules_broken_by(text + "\n\nclass _Bent:\n    pass\n")
+                self.assertEqual(found.count("L12"), 1, name)
 
     def test_the_interface_stands_in_its_files(self):
         for name, listed in INTERFACE.items():
