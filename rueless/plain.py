@@ -23,6 +23,11 @@ def is_tuple_of(value, length):
     return isinstance(value, tuple) and len(value) == length
 
 
+def lies_in(some, others):
+    """Whether all of some stands or kinds are among the others."""
+    return all([one in others for one in some])
+
+
 def is_sign(value, signs):
     """Whether any value is a string of one of these signs alone."""
     return isinstance(value, str) and len(value) == 1 and value in signs

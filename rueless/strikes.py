@@ -104,6 +104,17 @@ def check_verdict(trade, paper):
         raise PaperFault(0)
 
 
+def is_verdict(trade, word, value):
+    """Whether any value is a paper, which the checker lets by, that the trade is rueless, or rueful: of this word."""
+    if not isinstance(value, tuple) or not is_same(value[:1], (word,)):
+        return False
+    try:
+        check_verdict(trade, value)
+    except PaperFault:
+        return False
+    return True
+
+
 def sides_of(trade):
     """(kind, p, q) of all sides, in order."""
     found = []
@@ -113,11 +124,11 @@ def sides_of(trade):
     return found
 
 
-def need_sides(told, value):
-    """Raises PaperFault(0) for any value that is no tuple with a side, of any word, for each of these."""
+def need_sides(told, value, words=WORDS):
+    """Raises PaperFault(0) for any value that is no tuple with a side, of any of the words, for each of these."""
     if not is_tuple_of(value, len(told)) or not all([is_tuple_of(side, 4) for side in value]):
         raise PaperFault(0)
-    if not all([is_same(side[:3], one) and side[3] in WORDS for side, one in zip(value, told)]):
+    if not all([is_same(side[:3], one) and side[3] in words for side, one in zip(value, told)]):
         raise PaperFault(0)
 
 
@@ -126,11 +137,8 @@ def check_pairs(trade, told, value, is_let, is_answered):
 
     is_let(pair) is what else is asked of the form of a pair, is_answered(pair, pairs) whether it is closed.
     """
-    if not isinstance(value, tuple):
-        raise PaperFault(0)
+    need_pairs(trade, told, value)
     pairs = {pair: True for pair in value if _is_pair_of_twos(trade, pair)}
-    if not all([pair in pairs for pair in told]):
-        raise PaperFault(0)
     seen = {}
     for number, pair in enumerate(value, 1):
         if not _is_pair_of_twos(trade, pair) or pair in seen or not is_let(pair):
@@ -139,6 +147,15 @@ def check_pairs(trade, told, value, is_let, is_answered):
     for number, pair in enumerate(value, 1):
         if not is_answered(pair, pairs):
             raise PaperFault(number)
+
+
+def need_pairs(trade, told, value):
+    """Raises PaperFault(0) unless any value is a tuple in which each pair stands that is told."""
+    if not isinstance(value, tuple):
+        raise PaperFault(0)
+    pairs = {pair: True for pair in value if _is_pair_of_twos(trade, pair)}
+    if not all([pair in pairs for pair in told]):
+        raise PaperFault(0)
 
 
 def need_clash(trade, kind, p, q):
@@ -172,16 +189,17 @@ def is_strike(trade, letters, value):
     return value[2] in list(letters) and is_house(trade, value[3])
 
 
-def check_strikes(rows, is_formed, moves, is_free):
+def check_strikes(rows, is_formed, moves, is_free, ahead=0):
     """Raises PaperFault for the first row that is not formed as a strike, then the first that does not hold.
 
     A strike holds by those ahead of it, and by the pairs (x, y) with is_free(x, y), which need none.
+    So many members of the paper stand ahead of the rows.
     """
-    for number, row in enumerate(rows, 1):
+    for number, row in enumerate(rows, ahead + 1):
         if not is_formed(row):
             raise PaperFault(number)
     struck = {}
-    for number, row in enumerate(rows, 1):
+    for number, row in enumerate(rows, ahead + 1):
         x, y, letter, x2 = row[:4]
         if x2 not in moves(x, letter):
             raise PaperFault(number)

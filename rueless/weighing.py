@@ -36,7 +36,7 @@ class Weighing:
 
     def _word(self, kind, p, q):
         first, second = two_choices(self.trade, kind, p, q)
-        return _side_word(self.holds(second, first), self.holds(first, second))
+        return side_word(self.holds(second, first), self.holds(first, second))
 
     def _numbers_of(self, houses):
         return tuple([self._numbers[house] for house in houses])
@@ -84,7 +84,7 @@ def _those_of(numbers, let):
     return tuple([number for number in numbers if number in let])
 
 
-def _side_word(is_first, is_second):
+def side_word(is_first, is_second):
     """The word for whether the first and whether the second of two choices follows the other one."""
     if is_first:
         return "both" if is_second else "first"

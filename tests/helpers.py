@@ -8,9 +8,11 @@ import unittest
 
 from rueless.errors import PaperFault
 from rueless.machines import Machine
+from rueless.prices import Prices
 from rueless.relations import Relation
 from rueless.trades import Trade
 from rueless.twos import Table
+from rueless.wanted import Wants
 
 ORDER = "abcd01"
 
@@ -171,6 +173,9 @@ STILL = Spec(2, {})
 ANY = [None, True, False, -1, 0, 1, 2, 7, 10 ** 20, "", "a", "0", "ab", "x", "a0", (), [], (0,), [0], (True,), [None],
        ("a",), ["a", "b"], (0, 1), [1, 0], ((0, 1), (0, 1)), [[]], ("rueless", (), ()), deep(0, 70), TIDE.trade,
        Table(ROOMS.trade), Relation(0, ()), (TIDE.trade,), [0, TIDE.trade], Machine("a", [[0]])]
+# What bends put in; to add to it would change them all.
+BENT = list(ANY)
+ANY += [Prices(ROOMS.trade, {"a": [0, 1, None], "b": [None, 0, None]}), Wants([[("a", 0)]])]
 
 
 def same(one, other):
@@ -219,7 +224,7 @@ def bend(dice, value):
         return dice.choice([value + letter, letter + value, value[1:], value[:-1], letter])
     if type(value) is tuple and dice.random() < 0.4:
         return list(value)
-    return dice.choice(ANY)
+    return dice.choice(BENT)
 
 
 def bends(dice, value, many):

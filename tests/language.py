@@ -205,15 +205,19 @@ def plain_name_faults(source, known):
             yield "L12", node.lineno
 
 
+def is_static(node):
+    return [ast.unparse(one) for one in node.decorator_list] == ["staticmethod"]
+
+
 def statement_faults(source, known):
     for node in source.of(ast.stmt):
         if not isinstance(node, STATEMENTS):
             yield "L6", node.lineno
     for node in source.of(ast.FunctionDef):
-        if node.decorator_list or node.args.vararg or node.args.kwarg or node.returns:
+        if not is_static(node) and node.decorator_list or node.args.vararg or node.args.kwarg or node.returns:
             yield "L4", node.lineno
         for value in node.args.defaults + [one for one in node.args.kw_defaults if one is not None]:
-            if not isinstance(value, ast.Constant):
+            if not isinstance(value, ast.Constant) and not (isinstance(value, ast.Name) and value.id.isupper()):
                 yield "L4", node.lineno
     for node in source.of(ast.ExceptHandler):
         caught = node.type.elts if isinstance(node.type, ast.Tuple) else [node.type]

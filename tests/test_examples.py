@@ -98,10 +98,23 @@ HOMES = '''
     ('first', 'second', (2, (2, 3), False))
 '''
 
+FELLOWS = '''
+    >>> from rueless.fellows import barred_pairs, greatest_parts, part_gaps
+    >>> from rueless.kindsets import fewest_yards, rueful_sets, safe_sets
+    >>> from rueless.trades import Trade
+    >>> from rueless.twos import Table
+    >>> lists = Trade(3, {"a": (2, None, None), "b": (None, 2, None), "c": (2, 2, None)})
+    >>> safe_sets(lists), rueful_sets(lists), fewest_yards(lists)
+    (('ab', 'ac', 'bc'), ('abc',), (True, ('ab', 'c')))
+    >>> table = Table(lists)
+    >>> barred_pairs(table), greatest_parts(table), part_gaps(table, 1)
+    (((0, 1, 'c'),), ((0, 2), (1, 2)), (((0,), 1), ((1,), 0)))
+'''
+
 
 class ExamplesTest(unittest.TestCase):
     def test_examples(self):
-        for text in (OVERVIEW, DEALINGS, STRIKES, STEWARDS, MACHINES, SINGLE, HOMES):
+        for text in (OVERVIEW, DEALINGS, STRIKES, STEWARDS, MACHINES, SINGLE, HOMES, FELLOWS):
             told = doctest.DocTestParser().get_doctest(text, {}, "example", None, 0)
             self.assertGreater(len(told.examples), 5)
             self.assertEqual(doctest.DocTestRunner(verbose=False).run(told).failed, 0)

@@ -89,8 +89,29 @@ INTERFACE = {
                ".is_served(house, row) .some_serving(house, row) .side(kind, p, q) .clashes() .is_rueless() "
                ".levels(house, kind) .choice(house, word) .is_good_choice(house, word, stands) .walk(house, row) "
                ".party_paper() word_gap(trade, sizes) check_parties(trade, sizes, paper)",
+    "kindsets": "complement_sets(kinds, sets) meeting_sets(kinds, sets) is_safe(trade, kinds) safe_sets(trade) "
+                "rueful_sets(trade) kind_dealings(kinds, most) fewest_yards(trade) barred_dealings(trade, most) "
+                "kinds_paper(trade) yards_paper(trade) check_kinds(trade, value) check_yards(trade, kinds, value)",
+    "fellows": "are_fellows(table, p, q) fellow_pairs(table) barred_pairs(table) is_safe_part(table, part) "
+               "greatest_parts(table) join_fault(table, part, other) fewest_parts(table) part_gaps(table, many) "
+               "parts_paper(table) check_parts(trade, value)",
+    "prices": "Prices(trade, prices) .price(kind, stand) added_prices(one, other) times_prices(prices, times) "
+              "with_toll(prices, kind, toll) priced_moves(prices, house, letter) least_costs(prices, house, row) "
+              "cheapest_serving(prices, house, row) paid_prices(prices, house, row, serving) once_prices(rows) "
+              "once_story(rows)",
+    "slacks": "PriceTable(prices, *, most) .slack(x, y) .answer(x, y, letter, x2) .side(kind, p, q) .sides(kind) "
+              ".better(kind, p, q) price_sides(ptable) price_clashes(ptable) is_price_rueless(ptable) "
+              "right_sides(ptable, value) PriceSteward(ptable) .choice(house, kind) .after(house, letter) "
+              ".walk(house, row) price_story(prices, *, most)",
+    "bills": "price_paper(ptable) price_story_paper(prices, story) check_prices(trade, rows, value) "
+             "check_price_story(trade, rows, value)",
+    "wanted": "Wants(ways) .every(trade) .of_rows(rows) .parse(text) .after(room, letter) .letters_at(room) "
+              ".room_of(row) .wants_row(value) .both(other) .without(letters) .least() .row_count(length) "
+              "wants_told(value) wanted_beside(one, other)",
 }
-MOST = {"front_machine": 2000, "many_states": 2000}
+# The numbers of states and of rounds have bounds of their own; "most" yards are no bound of a search.
+MOST = {"front_machine": 2000, "many_states": 2000, "PriceTable": 2000, "kind_dealings": inspect.Parameter.empty,
+        "barred_dealings": inspect.Parameter.empty}
 
 BAD_FILES = {
     "L5": "@property\nclass Box:\n    pass\n",
@@ -163,7 +184,7 @@ class LanguageTest(unittest.TestCase):
                 told, _, names = word.replace(",", ", ").rstrip(")").partition("(")
                 if told.startswith("."):
                     self.assertIn(told[1:], vars(last))
-                    made = vars(last)[told[1:]]
+                    made = getattr(last, told[1:])
                 else:
                     self.assertIn(told, defined)
                     made = getattr(module, told)
