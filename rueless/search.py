@@ -12,17 +12,19 @@ def _row_to(came, state):
     return "".join(letters[::-1])
 
 
-def first_row(start, letters, lead, is_wanted, most=None):
+def first_row(start, letters, lead, is_wanted, most=None, longest=None):
     """The first row that leads from the start, itself not wanted, to a wanted state, or None.
 
     lead(state, letter) is the next state, or None where nothing is to be found.
     States come up in the order of their first rows, so the first wanted one has the first row.
+    Rows have at most so many letters as the longest.
     TooGreat(most) comes if more than so many states are met that are not wanted.
     """
     came = {start: None}
     queue = [start]
+    lengths = [0]
     at = 0
-    while at < len(queue):
+    while at < len(queue) and lengths[at] != longest:
         state = queue[at]
         at += 1
         for letter in letters:
@@ -33,6 +35,7 @@ def first_row(start, letters, lead, is_wanted, most=None):
             if is_wanted(behind):
                 return _row_to(came, behind)
             queue.append(behind)
+            lengths.append(lengths[at - 1] + 1)
             if most is not None and len(queue) > most:
                 raise TooGreat(most)
     return None

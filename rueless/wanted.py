@@ -43,8 +43,7 @@ class Wants:
         for at, row in enumerate(rows):
             if not is_row(LETTERS, row):
                 raise BadRow(at)
-        known = {row[:length]: True for row in rows for length in range(len(row) + 1)}
-        return _made_by("", lambda row, letter: row + letter if row + letter in known else None)
+        return wants_of_rows(rows)
 
     @staticmethod
     def parse(text):
@@ -121,6 +120,12 @@ def _made(ways):
     wants = Wants([[]])
     wants._fill(ways)
     return wants
+
+
+def wants_of_rows(rows):
+    """As Wants.of_rows, of rows of any length."""
+    known = {row[:length]: True for row in rows for length in range(len(row) + 1)}
+    return _made_by("", lambda row, letter: row + letter if row + letter in known else None)
 
 
 def _made_by(start, lead):

@@ -7,9 +7,11 @@ import random
 import unittest
 
 from rueless.errors import PaperFault
+from rueless.desk import Desk
 from rueless.machines import Machine
 from rueless.prices import Prices
 from rueless.relations import Relation
+from rueless.shapes import Rooms
 from rueless.trades import Trade
 from rueless.twos import Table
 from rueless.wanted import Wants
@@ -175,7 +177,8 @@ ANY = [None, True, False, -1, 0, 1, 2, 7, 10 ** 20, "", "a", "0", "ab", "x", "a0
        Table(ROOMS.trade), Relation(0, ()), (TIDE.trade,), [0, TIDE.trade], Machine("a", [[0]])]
 # What bends put in; to add to it would change them all.
 BENT = list(ANY)
-ANY += [Prices(ROOMS.trade, {"a": [0, 1, None], "b": [None, 0, None]}), Wants([[("a", 0)]])]
+ANY += [Prices(ROOMS.trade, {"a": [0, 1, None], "b": [None, 0, None]}), Wants([[("a", 0)]]), Rooms("a", ["a"]),
+        Desk("stands 1")]
 
 
 def same(one, other):

@@ -217,7 +217,7 @@ def statement_faults(source, known):
         if not is_static(node) and node.decorator_list or node.args.vararg or node.args.kwarg or node.returns:
             yield "L4", node.lineno
         for value in node.args.defaults + [one for one in node.args.kw_defaults if one is not None]:
-            if not isinstance(value, ast.Constant) and not (isinstance(value, ast.Name) and value.id.isupper()):
+            if not isinstance(value, ast.Constant) and ast.unparse(value) != "()" and not (isinstance(value, ast.Name) and value.id.isupper()):
                 yield "L4", node.lineno
     for node in source.of(ast.ExceptHandler):
         caught = node.type.elts if isinstance(node.type, ast.Tuple) else [node.type]

