@@ -218,7 +218,7 @@ def _is_claim(prices, claimed, value):
     for x2, a in least_moves(prices, x, letter):
         if is_same(told, x2):
             rests = [(y2, number - b + a) for y2, b in least_moves(prices, y, letter)]
-            return all([rest <= 0 or claimed.get((x2, y2), 0) >= rest for y2, rest in rests])
+            return all([claimed.get((x2, y2), 0) >= rest for y2, rest in rests])
     return False
 
 
@@ -226,9 +226,12 @@ def check_price_story(trade, rows, value):
     prices = _prices_of(trade, rows)
     if not is_tuple_of(value, 7) or not is_same(value[0], "price story") or not _is_story(prices, value[1:6]):
         raise PaperFault(0)
-    costs = value[6]
-    if not is_tuple_of(costs, 4):
+    costs = _story_costs(prices, value[1:6])
+    if not is_tuple_of(value[6], len(costs)):
         raise PaperFault(0)
-    for number, (told, right) in enumerate(zip(costs, _story_costs(prices, value[1:6])), 1):
-        if not is_same(told, right):
+    if not all([is_tuple_of(told, len(right)) for told, right in zip(value[6], costs)]):
+        raise PaperFault(0)
+    pairs = [pair for told, right in zip(value[6], costs) for pair in zip(told, right)]
+    for number, (one, other) in enumerate(pairs, 1):
+        if not is_same(one, other):
             raise PaperFault(number)

@@ -5,7 +5,7 @@ from itertools import combinations
 from rueless.errors import BadTrade, PaperFault, Refused
 from rueless.plain import is_number, is_number_below, is_same, is_tuple_of, lies_in
 from rueless.strikes import (WORDS, answering, both_ways, check_pairs, check_strikes, is_strike, moves_known,
-                             need_pairs, need_sides, need_strikes, side_pairs, sides_of, told_pairs)
+                             need_sides, need_strikes, side_pairs, sides_of, told_pairs)
 from rueless.trades import all_parts, is_part, least_part, need_stand
 
 
@@ -131,8 +131,6 @@ def check_parts(trade, value):
         raise PaperFault(0)
     word, sides, pairs, strikes, told = value[:5]
     need_sides(sides_of(trade), sides, WORDS + ("none",))
-    said = told_pairs(trade, [side for side in sides if side[3] != "none"])
-    need_pairs(trade, said, pairs)
     need_strikes(_clashing_pairs(trade, sides), strikes)
     barred = _barred(sides)
     if word == "together":
@@ -142,6 +140,7 @@ def check_parts(trade, value):
     else:
         _need_lone(trade, barred, told)
     moves = moves_known(trade)
+    said = told_pairs(trade, [side for side in sides if side[3] != "none"])
     check_pairs(trade, said, pairs, lambda pair: True, answering(trade.letters, moves, moves))
     check_strikes(strikes, lambda row: is_strike(trade, trade.letters, row), moves, lambda x, y: False, len(pairs))
     if word == "together":

@@ -154,12 +154,8 @@ def _need_sets(kinds, value):
     if not isinstance(value, tuple) or not all([is_tuple_of(one, 2) for one in value]):
         raise PaperFault(0)
     sets = [one for one, _ in value]
-    if not all([_is_set(kinds, one) for one in sets]) or _in_order({one: True for one in sets}) != tuple(sets):
+    if not all([one in _all_sets(kinds) for one in sets]) or _in_order({one: True for one in sets}) != tuple(sets):
         raise PaperFault(0)
-
-
-def _is_set(kinds, value):
-    return isinstance(value, str) and value in _all_sets(kinds)
 
 
 def _fit(kinds, safe, rueful):

@@ -7,7 +7,7 @@ from rueless.plain import is_number_below
 from rueless.rows import MOST_LETTERS
 from rueless.search import first_row
 from rueless.stewards import Steward
-from rueless.trades import cut_kinds, need_beat, need_kind
+from rueless.trades import cut_kinds, need_kind
 from rueless.twos import Table
 from rueless.verdict import is_rueless, sure_choices
 
@@ -50,7 +50,6 @@ class Yard:
         return is_rueless(self.table)
 
     def choice(self, kind):
-        need_kind(self.trade, kind)
         if self.is_safe():
             return Steward(self.table).choice(self.house, kind)
         stands = takers(self.trade, self.house, kind)
@@ -70,7 +69,6 @@ class Yard:
         self._lead(served(self.trade, self.house, kind, stand), kind)
 
     def beat(self, sign):
-        need_beat(self.trade, sign)
         self._lead(beaten(self.trade, self.house, sign), sign)
 
     def _lead(self, house, letter):

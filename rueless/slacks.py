@@ -47,7 +47,6 @@ class PriceTable:
         return side_word(self.may_take(kind, p, q), self.may_take(kind, q, p))
 
     def sides(self, kind):
-        need_kind(self.trade, kind)
         stands = taking_stands(self.trade, kind)
         return tuple([(p, q, self.side(kind, p, q)) for p in stands for q in stands if p < q])
 

@@ -3,7 +3,7 @@
 from rueless.errors import PaperFault
 from rueless.houses import is_house
 from rueless.moves import Moves
-from rueless.plain import is_number_below, is_same, is_sign, is_tuple_of
+from rueless.plain import is_integer, is_number_below, is_same, is_sign, is_tuple_of
 from rueless.verdict import first_clash
 from rueless.weighing import taking_stands, two_choices
 
@@ -137,8 +137,11 @@ def check_pairs(trade, told, value, is_let, is_answered):
 
     is_let(pair) is what else is asked of the form of a pair, is_answered(pair, pairs) whether it is closed.
     """
-    need_pairs(trade, told, value)
+    if not isinstance(value, tuple):
+        raise PaperFault(0)
     pairs = {pair: True for pair in value if _is_pair_of_twos(trade, pair)}
+    if not all([pair in pairs for pair in told]):
+        raise PaperFault(0)
     seen = {}
     for number, pair in enumerate(value, 1):
         if not _is_pair_of_twos(trade, pair) or pair in seen or not is_let(pair):
@@ -147,15 +150,6 @@ def check_pairs(trade, told, value, is_let, is_answered):
     for number, pair in enumerate(value, 1):
         if not is_answered(pair, pairs):
             raise PaperFault(number)
-
-
-def need_pairs(trade, told, value):
-    """Raises PaperFault(0) unless any value is a tuple in which each pair stands that is told."""
-    if not isinstance(value, tuple):
-        raise PaperFault(0)
-    pairs = {pair: True for pair in value if _is_pair_of_twos(trade, pair)}
-    if not all([pair in pairs for pair in told]):
-        raise PaperFault(0)
 
 
 def need_clash(trade, kind, p, q):
@@ -177,9 +171,14 @@ def need_strikes(told, rows):
     """Raises PaperFault(0) unless any value is a tuple in which a row begins with each pair that is told."""
     if not isinstance(rows, tuple):
         raise PaperFault(0)
-    for pair in told:
-        if not any([isinstance(row, tuple) and is_same(row[:2], pair) for row in rows]):
-            raise PaperFault(0)
+    heads = {row[:2]: True for row in rows if isinstance(row, tuple) and all([_has_integers(one) for one in row[:2]])}
+    if not all([pair in heads for pair in told]):
+        raise PaperFault(0)
+
+
+def _has_integers(value):
+    """Whether any value is a tuple of integers, as houses are."""
+    return isinstance(value, tuple) and all([is_integer(one) for one in value])
 
 
 def is_strike(trade, letters, value):

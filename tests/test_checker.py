@@ -2,36 +2,38 @@ import itertools
 import random
 import unittest
 
-from helpers import ANY, CROSSED, RING, ROOMS, TIDE, Case, Spec, bends
-from rueless.bills import price_paper, price_story_paper
+from helpers import ANY, CROSSED, RING, ROOMS, TIDE, Case, Spec, bends, same
+from rueless.bills import check_price_story, check_prices, price_paper, price_story_paper
 from rueless.checker import paper_holds, paper_words, wrong_papers
-from rueless.cores import all_cores, core_paper
-from rueless.dealings import some_dealing
-from rueless.enough import enough_paper, is_enough, missed_paper
-from rueless.fellows import parts_paper
-from rueless.growths import growth_paper
-from rueless.heedless import heedless_paper
-from rueless.homes import Homes
-from rueless.kindsets import kinds_paper, yards_paper
-from rueless.looks import chain_paper, looks_paper
-from rueless.lots import lot_paper
-from rueless.machines import Machine, machine_paper
-from rueless.opening import late_fault
-from rueless.parties import Parties
-from rueless.places import below_paper
+from rueless.cores import all_cores, core_holds, core_paper
+from rueless.dealings import is_dealing, some_dealing
+from rueless.enough import enough_holds, enough_paper, is_enough, missed_holds, missed_paper
+from rueless.errors import RuelessError
+from rueless.fellows import check_parts, parts_paper
+from rueless.growths import growth_holds, growth_paper
+from rueless.heedless import heedless_holds, heedless_paper
+from rueless.homes import Homes, check_homes
+from rueless.houses import house_of
+from rueless.kindsets import check_kinds, check_yards, kinds_paper, yards_paper
+from rueless.looks import chain_paper, holds_looks, looks_paper
+from rueless.lots import check_lot, lot_paper
+from rueless.machines import Machine, machine_holds, machine_paper
+from rueless.opening import late_fault, late_holds
+from rueless.parties import Parties, check_parties
+from rueless.places import below_paper, holds_below
 from rueless.prices import Prices
-from rueless.rankings import joint_paper, loss_paper, ranking_paper
-from rueless.ready import helped_paper, ready_paper
-from rueless.rows import row_paper
-from rueless.single import Single, foe_paper
+from rueless.rankings import holds_joint, holds_ranking, joint_paper, loss_paper, ranking_paper
+from rueless.ready import helped_holds, helped_paper, ready_holds, ready_paper
+from rueless.rows import holds_row, row_paper
+from rueless.single import Single, foe_paper, single_holds, tree_holds
 from rueless.slacks import PriceTable, price_story
 from rueless.stewards import Steward
-from rueless.stories import least_row, least_story, parting_paper, story_paper
-from rueless.strikes import verdict_paper
-from rueless.twins import many_states
+from rueless.stories import least_row, least_story, parting_holds, parting_paper, story_holds, story_paper
+from rueless.strikes import check_verdict, verdict_paper
+from rueless.twins import many_states, states_holds
 from rueless.twos import Table
 from rueless.verdict import is_rueless
-from rueless.wanted import Wants
+from rueless.wanted import Wants, wants_told
 
 WORDS = ("serving refusal dealing below parts parting rueless rueful joint_ranking joint_ring story heedless careless "
          "kinds together no_parts helped ranking ranking_loss ring looks chain single foe machine states core late lot "
@@ -166,6 +168,8 @@ class CheckerTest(Case):
                 for kind in "abcd":
                     self.assertIs(paper_holds(spec.trade, (kind,), paper), (kind,) == question)
                 self.assertIs(paper_holds(spec.trade, (list(question),), paper), False)
+            if paper[0] in ("dealing", "growth", "parting"):
+                self.assertIs(paper_holds(spec.trade, question, paper + ((),)), False)
             if paper[0] == "core":
                 for part in ((), (0,), list(question[0]), question[0][::-1]):
                     self.assertIs(paper_holds(spec.trade, (part,), paper), False)
@@ -215,7 +219,7 @@ class CheckerTest(Case):
         for spec, question, paper in SHEETS:
             for bent in bends(dice, paper, 4):
                 held.append(paper_holds(spec.trade, question, bent))
-                self.assertIn(held[-1], (True, False))
+                self.assertIs(held[-1], holds_by_itself(spec.trade, question, bent), bent)
         self.assertGreater(held.count(False), 800)
         self.assertGreater(held.count(True), len(SHEETS))
 
@@ -229,6 +233,39 @@ class CheckerTest(Case):
         self.assertSame(self.agrees(wrong_papers, sheets=bent), (3, 7, 8, 11, 39))
         self.assertSame(wrong_papers(tuple(ANY)), tuple(range(len(ANY))))
         self.assertSame(wrong_papers([]), ())
+
+
+def holds_by_itself(trade, question, paper):
+    """Whether the function of the paper's own word lets it by."""
+    if type(paper) is not tuple or not paper or not isinstance(paper[0], str) or paper[0] not in WORDS:
+        return False
+    word = paper[0]
+    calls = {"serving": holds_row, "refusal": holds_row, "below": holds_below, "parts": holds_below, "single": single_holds,
+             "foe": tree_holds, "machine": machine_holds, "states": states_holds, "late": late_holds, "lot": check_lot,
+             "lot rueful": check_lot, "homes": check_homes, "homes rueful": check_homes, "parties": check_parties,
+             "parties rueful": check_parties, "yards": check_yards, "no yards": check_yards, "priced": check_prices,
+             "dear": check_prices, "price story": check_price_story, "rueless": check_verdict, "rueful": check_verdict,
+             "joint ranking": holds_joint, "joint ring": holds_joint, "story": story_holds, "heedless": heedless_holds,
+             "careless": heedless_holds, "kinds": check_kinds, "together": check_parts, "no parts": check_parts,
+             "helped": helped_holds}
+    own = {"ranking": holds_ranking, "ranking loss": holds_ranking, "ring": holds_ranking, "looks": holds_looks,
+           "chain": holds_looks, "core": core_holds}
+    wanted = {"missed": missed_holds, "plan": ready_holds, "ranks": ready_holds, "least": enough_holds}
+    try:
+        if word in calls:
+            return calls[word](trade, *question, paper) in (True, None)
+        if word in own:
+            return own[word](trade, paper) and same(paper[1], question[0])
+        if word in wanted:
+            return wanted[word](trade, wants_told(question[0]), question[1], paper)
+        if word == "dealing":
+            return len(paper) == 2 and is_dealing(trade, *question, paper[1])
+        if word == "parting":
+            return parting_holds(trade, paper) and paper[1:3] == tuple(house_of(trade, house) for house in question)
+        return growth_holds(question[0], paper)
+    except (RuelessError, KeyError, TypeError):
+        # A TypeError comes where the word of another question was put in.
+        return False
 
 
 if __name__ == "__main__":

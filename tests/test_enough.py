@@ -319,6 +319,9 @@ class PapersTest(Case):
             self.assertIs(enough_holds(ROOMS.trade, wants, 2, ("least", value, paper[2])), False)
             self.assertIs(enough_holds(ROOMS.trade, wants, 2, ("least", paper[1], value)), False)
         self.assertTrue(all(is_house(ROOMS.trade, house) for house, _ in paper[2]))
+        fewer = tuple(rest for rest in paper[2] if len(rest[0]) < 2)
+        self.assertIs(enough_holds(ROOMS.trade, wants, 1, ("least", (), fewer)), True)
+        self.assertIs(enough_holds(ROOMS.trade, wants, 1, ("least", paper[1], fewer)), False)
 
     def test_a_house_that_takes_too_much_is_not_enough(self):
         spec = Spec(4, {"a": [1, 1, None, 2], "b": [0, 3, None, 2]}, {"0": [0, 1, 2, 0], "1": [2, 1, 0, 3]})

@@ -20,7 +20,9 @@ FORK = Spec(4, {"a": [3, None, 0, None], "b": [None, 3, 1, None], "c": [3, 3, No
 APART = Spec(4, {"a": [0, None, None, 3], "b": [None, 1, 2, None]})
 FOUR = Spec(5, {"a": [4, None, None, None, None], "b": [None, 4, None, None, None], "c": [4, 4, 4, None, None],
                 "d": [None, None, 4, 4, None]})
-TOLD = [CROSSED, RING, ROOMS, SILENT, STILL, TIDE, FORK, APART, FOUR]
+# Two of its three greatest safe parts hold all stands.
+TWO_OF_THREE = Spec(4, {"a": [3, 1, None, None], "b": [None, None, 1, 3], "c": [0, None, 1, None]})
+TOLD = [CROSSED, RING, ROOMS, SILENT, STILL, TIDE, FORK, APART, FOUR, TWO_OF_THREE]
 
 
 def barred(spec):
@@ -132,6 +134,8 @@ class FellowsTest(Case):
                 self.assertSame(self.agrees(part_gaps, table=table, many=many), wanted)
         self.assertTrue({False, 1, 2} <= found, found)
         self.assertSame(fewest_parts(Table(FORK.trade)), (False, (2,)))
+        self.assertSame(greatest_parts(Table(TWO_OF_THREE.trade)), ((0, 3), (1, 2), (1, 3)))
+        self.assertSame(fewest_parts(Table(TWO_OF_THREE.trade)), (True, ((0, 3), (1, 2))))
         self.assertSame(part_gaps(Table(FORK.trade), 9), (((0, 1), 2),))
         self.assertSame(part_gaps(Table(FORK.trade), 10 ** 20), (((0, 1), 2),))
 
@@ -259,6 +263,10 @@ class PaperTest(Case):
         self.assertEqual(fault_of(check_parts, CROSSED.trade, part), 3)
         self.assertEqual(fault_of(check_parts, CROSSED.trade, ("together", sides, pairs, strikes, ((0, 2), (1,)), gaps)), 0)
         self.assertEqual(fault_of(check_parts, CROSSED.trade, ("together", sides, pairs, strikes, ((0, 2),), gaps)), 0)
+        # All stands at once are no safe part.
+        for gaps_told in (gaps, (((), 0),), ()):
+            one = ("together", sides, pairs, strikes, ((0, 1, 2),), gaps_told)
+            self.assertEqual(fault_of(check_parts, CROSSED.trade, one), 0)
         table = Table(APART.trade)
         paper = parts_paper(table)
         self.assertSame(paper[4:], (((0, 1, 2, 3),), (((), 0),)))

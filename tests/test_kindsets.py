@@ -17,7 +17,11 @@ ALONE = Spec(3, {"a": [2, 1, 2], "b": [1, None, 0], "c": [None, 2, 0]}, {"0": [2
 LISTS = Spec(3, {"a": [2, None, None], "b": [None, 2, None], "c": [2, 2, None]})
 FOUR = Spec(5, {"a": [4, None, None, 4, None], "b": [None, 4, None, None, None], "c": [4, 4, None, None, None],
                 "d": [None, None, 4, 4, None]})
-TOLD = [CROSSED, ROOMS, SILENT, STILL, TIDE, ALONE, LISTS, FOUR]
+# Three and four yards are needed.
+THREE_YARDS = Spec(3, {"a": [1, None, 0], "b": [1, None, None], "c": [None, 0, 0], "d": [None, None, 2]}, {"0": [1, 0, 2]})
+FOUR_YARDS = Spec(4, {"a": [None, 3, 1, 0], "b": [1, 1, 1, 2], "c": [1, None, 1, 2], "d": [None, 2, 0, 0]},
+                  {"0": [0, 1, 2, 1]})
+TOLD = [CROSSED, ROOMS, SILENT, STILL, TIDE, ALONE, LISTS, FOUR, THREE_YARDS, FOUR_YARDS]
 
 
 def all_sets(kinds):
@@ -144,7 +148,7 @@ class SetsTest(Case):
                 self.assertSame(barred, tuple(
                     (one, next(rueful for rueful in rueful_sets(spec.trade) if any(set(rueful) <= set(kinds) for kinds in one)))
                     for one in dealings))
-        self.assertTrue({0, 1, 2, "alone"} <= found, found)
+        self.assertTrue({0, 1, 2, 3, 4, "alone"} <= found, found)
 
 
 def is_told(spec, word, value):
@@ -254,6 +258,10 @@ class PapersTest(Case):
         more = (("a", verdict_paper(Table(cut_kinds(trade, "a")))),) + safe
         self.assertEqual(fault_of(check_kinds, trade, ("kinds", more, rueful)), 6)
         self.assertEqual(fault_of(check_kinds, trade, ("kinds", safe, rueful, ())), 0)
+        # A rueful set that is not a least one doesn't fit, though the safe sets are the greatest beside them.
+        _, safe, rueful = kinds_paper(ALONE.trade)
+        more = rueful + (("bc", verdict_paper(Table(cut_kinds(ALONE.trade, "bc")))),)
+        self.assertEqual(fault_of(check_kinds, ALONE.trade, ("kinds", safe, more)), 5)
         paper = kinds_paper(trade)
         right = ("yards", ("ab", "c"), ((("abc",), "abc"),))
         for number, bent in [(0, ("yards", ("c", "ab"), right[2])), (0, ("yards", ("abc",), ())), (0, right[:2]),

@@ -183,6 +183,12 @@ class YardTest(Case):
         self.fails(Refused(0), yard.come, "a")
         yard = Yard(RING.trade, (0, 1), shut_kinds=())
         self.assertSame((yard.shut_kinds, yard.is_safe(), yard.choice("a")), ("", True, 1))
+        # In a ring of stands all are sure, and the steward takes the last that he comes to.
+        yard = Yard(RING.trade, (0, 1, 2))
+        self.assertSame((sure_choices(yard.table, yard.house, "a"), yard.choice("a")), ((0, 1, 2), 2))
+        more = Spec(5, {"a": [3, None, None, None, None], "b": [None, 3, None, None, None], "c": [3, 3, 2, None, 4]})
+        yard = Yard(more.trade, (0, 1, 2, 4))
+        self.assertSame((sure_choices(yard.table, yard.house, "c"), yard.choice("c"), yard.is_safe()), ((2, 4), 2, False))
         self.assertSame(Yard(STILL.trade).house, ())
         with self.assertRaises(TypeError):
             list(yard)

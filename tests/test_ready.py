@@ -158,6 +158,8 @@ class ReadyTest(Case):
             self.fails(CannotTake(value), ready_choice, TIDE.trade, wants, 0, (0, 1), value)
         for value in without(ANY, lambda one: type(one) is int and 0 <= one <= 6):
             self.fails(Refused(value), least_ready, TIDE.trade, wants, value)
+        self.assertSame(least_ready(ROOMS.trade, Wants([[("a", 0)]]), 6), ())
+        self.fails(Refused(5), least_ready, Trade(7, {"a": [6] * 6 + [None]}), Wants([[]]), 5)
 
 
 def slow_plan_holds(spec, wants, start, value):

@@ -131,6 +131,8 @@ class RoomsTest(ShapeCase):
             self.assertIs(rooms.verdict()[0] == "rueful", crossed)
         self.assertEqual(words, {"rueless", "rueful"})
         self.assertSame(Rooms("abcd", ["ab", "cd", "bcd", "ac"]).verdict(), ("rueful", "b", 0, 2, "c", "a"))
+        self.assertSame(Rooms("abcd", ["acd", "ab"]).verdict(), ("rueful", "a", 0, 1, "b", "c"))
+        self.assertSame(Rooms("abcd", ["ab", "acd"]).verdict(), ("rueful", "a", 0, 1, "c", "b"))
         self.assertSame(Rooms("abcd", ["abc", "bcd"]).verdict(), ("rueful", "b", 0, 1, "d", "a"))
 
     def test_choices(self):

@@ -322,7 +322,7 @@ class StoryTest(Case):
     def test_stories(self):
         lengths = set()
         late = 0
-        for dice, spec, prices, table in cases(949, 70):
+        for dice, spec, prices, table in cases(949, 300, tops=(0, 1, 2, 5)):
             if spec.stands > 4 or len(spec.kinds) > 3:
                 continue
             told = self.agrees(price_story, prices=prices)
@@ -350,6 +350,9 @@ class StoryTest(Case):
         many = 0
         for dice, spec, prices, table in cases(950, 30):
             told = price_story(prices)
+            pairs = pairs_of_costs(spec, prices, table, 300)
+            if pairs <= 300:
+                self.assertSame(price_story(prices, most=max(1, pairs)), told)
             for most in (1, 2, 3, 5, 8, 20):
                 try:
                     self.assertSame(price_story(prices, most=most), told)
