@@ -4,7 +4,7 @@ from rueless.errors import BadPrices, PaperFault, Refused
 from rueless.houses import is_house
 from rueless.moves import house_moves
 from rueless.plain import is_integer, is_number, is_same, is_sequence, is_sign, is_tuple_of
-from rueless.prices import Prices, least_costs, least_moves
+from rueless.prices import Prices, costs_behind, least_costs, least_moves
 from rueless.rows import is_row
 from rueless.search import reached
 from rueless.slacks import price_clashes, price_sides
@@ -75,7 +75,11 @@ def _story_costs(prices, story):
 
 
 def _costs_on(prices, house, row):
-    return tuple([least_costs(prices, house, row[:at]) for at in range(len(row) + 1)])
+    """The least costs behind each beginning of a row."""
+    found = [((house, 0),)]
+    for letter in row:
+        found.append(costs_behind(prices, found[-1], letter))
+    return tuple(found)
 
 
 def _is_story(prices, value):

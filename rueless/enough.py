@@ -9,6 +9,8 @@ from rueless.rows import can_serve, fronts
 from rueless.search import first_row
 from rueless.stewards import Walker
 
+MOST_PAIRS = 20000
+
 
 def need_letters(trade, wants):
     """Raises NoLetter for the first letter of the wants that the trade lacks."""
@@ -17,7 +19,8 @@ def need_letters(trade, wants):
             raise NoLetter(letter)
 
 
-def _need_places(trade, places):
+def need_places(trade, places):
+    """Raises Refused for any value that is no number of places of a house."""
     if not is_number_below(places, most_places(trade) + 1):
         raise Refused(places)
 
@@ -75,7 +78,7 @@ def _has_none_within(houses, house):
 
 def least_enough(trade, wants, places, *, most=20000):
     need_letters(trade, wants)
-    _need_places(trade, places)
+    need_places(trade, places)
     moves = Moves(trade)
     return least_houses(trade, places, lambda house: _first_missed(moves, wants, house, most) is None)
 
@@ -96,7 +99,7 @@ def lesser_rows(trade, wants, house, *, most=20000):
 
 def cheapest(trade, wants, places, prices, *, most=20000):
     need_letters(trade, wants)
-    _need_places(trade, places)
+    need_places(trade, places)
     if not is_sequence(prices) or len(prices) != trade.stands:
         raise BadPrices(-1)
     for at, price in enumerate(prices):
@@ -135,7 +138,7 @@ def is_missed(trade, wants, house, value):
 def enough_paper(trade, wants, places):
     houses = least_enough(trade, wants, places)
     moves = Moves(trade)
-    rests = [(house, _first_missed(moves, wants, house, 20000)) for house in _houses_beside(trade, places, houses)]
+    rests = [(house, _first_missed(moves, wants, house, MOST_PAIRS)) for house in _houses_beside(trade, places, houses)]
     return ("least", houses, tuple(rests))
 
 
@@ -146,7 +149,7 @@ def _houses_beside(trade, places, houses):
 
 def enough_holds(trade, wants, places, value):
     need_letters(trade, wants)
-    _need_places(trade, places)
+    need_places(trade, places)
     if not is_tuple_of(value, 3) or not is_same(value[0], "least"):
         return False
     _, houses, rests = value

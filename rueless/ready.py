@@ -1,8 +1,8 @@
 """Ready: whether a steward who knows the wants can serve every wanted row, whatever comes."""
 
-from rueless.enough import is_surely_enough, least_houses, need_letters
+from rueless.enough import is_surely_enough, least_houses, need_letters, need_places
 from rueless.errors import CannotTake, NoRoom, Refused
-from rueless.houses import house_of, is_house, most_places
+from rueless.houses import house_of, is_house
 from rueless.losses import Losses, pair_ways
 from rueless.moves import comer_choices
 from rueless.plain import is_number, is_number_below, is_same, is_sign, is_tuple_of
@@ -73,8 +73,7 @@ def lost_ranks(trade, wants, house):
 
 def least_ready(trade, wants, places):
     need_letters(trade, wants)
-    if not is_number_below(places, most_places(trade) + 1):
-        raise Refused(places)
+    need_places(trade, places)
     return least_houses(trade, places, lambda house: is_ready(trade, wants, house))
 
 

@@ -333,7 +333,8 @@ class StoryTest(Case):
                 lengths.add(len(told[3]) + len(told[4]))
                 late += told[:3] != price_clashes(table)[0]
             elif told is not None and slow is not None:
-                self.assertLess(len(told[3] + told[4]), len(slow[3] + slow[4]))
+                order = [(len(one[3] + one[4]), price_clashes(table).index(one[:3])) for one in (told, slow)]
+                self.assertLess(order[0], order[1])
         self.assertTrue({0, 1, 2, 3} - {0} <= lengths, lengths)
         self.assertGreater(late, 0)
 
