@@ -25,15 +25,15 @@ class Hunt:
         costs = [(x, cost) for x, cost in costs if not self._is_covered(x, cost, other)]
         if self.row is not None or not costs:
             return
+        if not other or min([cost for _, cost in costs]) < min([cost for _, cost in other]):
+            self.row = row
+            return
         # What all costs have in common makes no difference to rows behind.
         base = costs[0][1]
         state = (tuple([(x, cost - base) for x, cost in costs]), tuple([(y, cost - base) for y, cost in other]))
-        if state in self._met:
-            return
-        self._met[state] = True
-        self._band.append((state, row))
-        if not other or min([cost for _, cost in costs]) < min([cost for _, cost in other]):
-            self.row = row
+        if state not in self._met:
+            self._met[state] = True
+            self._band.append((state, row))
 
     def _is_covered(self, x, cost, other):
         """Whether some house of the others never costs more behind any row, so that x is of no use."""
@@ -44,7 +44,7 @@ class Hunt:
         return False
 
     def met(self):
-        """How many states were met."""
+        """How many states were met that are not what is looked for."""
         return len(self._met)
 
     def is_over(self):
