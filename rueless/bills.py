@@ -233,9 +233,6 @@ def check_price_story(trade, rows, value):
     costs = _story_costs(prices, value[1:6])
     if not is_tuple_of(value[6], len(costs)):
         raise PaperFault(0)
-    if not all([is_tuple_of(told, len(right)) for told, right in zip(value[6], costs)]):
-        raise PaperFault(0)
-    pairs = [pair for told, right in zip(value[6], costs) for pair in zip(told, right)]
-    for number, (one, other) in enumerate(pairs, 1):
-        if not is_same(one, other):
+    for number, (told, right) in enumerate(zip(value[6], costs), 1):
+        if not is_same(told, right):
             raise PaperFault(number)

@@ -8,6 +8,7 @@ from rueless.errors import BadPrices, Refused, RuelessError
 from rueless.houses import is_house
 from rueless.prices import Prices, least_costs, once_prices, once_story, priced_moves
 from rueless.slacks import PriceTable, price_clashes, price_sides, price_story
+from rueless.trades import Trade
 from test_slacks import CHEAP, cases
 
 MOST = 10 ** 6
@@ -274,17 +275,10 @@ def slow_story_fault(spec, prices, value):
     except (TypeError, ValueError, RuelessError):
         return 0
     costs = costs_of(spec, prices, value[1:6])
-    if type(value[6]) is not tuple or not all(type(told) is tuple for told in value[6]):
+    if type(value[6]) is not tuple or len(value[6]) != 4:
         return 0
-    if [len(told) for told in value[6]] != [len(told) for told in costs]:
-        return 0
-    number = 0
-    for told, right in zip(value[6], costs):
-        for one, other in zip(told, right):
-            number += 1
-            if not is_plain(one) or one != other:
-                return number
-    return None
+    faults = [at + 1 for at in range(4) if not is_plain(value[6][at]) or value[6][at] != costs[at]]
+    return min(faults, default=None)
 
 
 class StoryTest(Case):
@@ -327,21 +321,36 @@ class StoryTest(Case):
         paper = price_story_paper(prices, ("a", 0, 1, "", "b"))
         costs = paper[6]
         self.assertSame([len(told) for told in costs], [1, 1, 2, 2])
-        ahead = 0
         for at in range(4):
-            for told in (costs[at][:-1], costs[at] + ((),), list(costs[at]), None, ()):
-                bent = paper[:6] + (costs[:at] + (told,) + costs[at + 1:],)
-                self.assertEqual(fault_of(check_price_story, trade, rows, bent), 0, bent)
+            faulty = [costs[at][:-1], costs[at] + ((),), list(costs[at])]
             for member in range(len(costs[at])):
                 for told in (((((2, 2), 7),),), (None,), ((),), (list(costs[at][member]),), ((((2, 2), True),),)):
-                    told = costs[at][:member] + told + costs[at][member + 1:]
-                    bent = paper[:6] + (costs[:at] + (told,) + costs[at + 1:],)
-                    self.assertEqual(fault_of(check_price_story, trade, rows, bent), ahead + member + 1, bent)
-            ahead += len(costs[at])
-        for told in (costs[:3], costs + ((),), list(costs), None):
+                    faulty.append(costs[at][:member] + told + costs[at][member + 1:])
+            for told in faulty + without(ANY, lambda one: type(one) is tuple and one == costs[at]):
+                bent = paper[:6] + (costs[:at] + (told,) + costs[at + 1:],)
+                self.assertEqual(fault_of(check_price_story, trade, rows, bent), at + 1, bent)
+                bent = paper[:6] + (costs[:at] + (told,) + (None,) * (3 - at),)
+                self.assertEqual(fault_of(check_price_story, trade, rows, bent), at + 1, bent)
+        for told in (costs[:3], costs + ((),), costs + (costs[0],), (), (None,) * 3, (None,) * 5, list(costs), None):
             self.assertEqual(fault_of(check_price_story, trade, rows, paper[:6] + (told,)), 0)
         for at, value in [(1, "b"), (2, 1), (3, 0), (4, "b"), (5, "a"), (4, None), (5, "bb"), (0, "story")]:
             self.assertEqual(fault_of(check_price_story, trade, rows, paper[:at] + (value,) + paper[at + 1:]), 0)
+
+    def test_a_cost_of_many_entries_is_looked_at_whole(self):
+        trade = Trade(3, {"b": [1, 2, None], "d": [1, 2, None]})
+        prices = Prices(trade, {"b": [9, 2, None], "d": [7, 3, None]})
+        story = price_story(prices)
+        self.assertSame(story, ("d", 0, 1, "b", ""))
+        paper = price_story_paper(prices, story)
+        first, second, third, fourth = paper[6]
+        self.assertSame([len(told) for told in paper[6]], [2, 2, 1, 1])
+        bent = ((((0, 0), 5),),)
+        for costs, fault in [
+                ((first + ((),), second, third, fourth), 1), ((first[:1], second, third, fourth), 1),
+                ((None, second, third, fourth), 1), ((first[:1] + bent, second, third, fourth), 1),
+                ((first, second[:1] + bent, third, fourth), 2), ((first, bent + second[1:], bent, fourth), 2),
+                ((first, second, bent, fourth), 3), ((first, second, third, bent), 4), (paper[6], None)]:
+            self.assertEqual(fault_of(check_price_story, trade, prices.rows, paper[:6] + (costs,)), fault, costs)
 
     def test_bent_papers(self):
         dice = random.Random(967)
@@ -354,7 +363,7 @@ class StoryTest(Case):
                 fault = fault_of(check_price_story, spec.trade, prices.rows, bent)
                 self.assertEqual(fault, slow_story_fault(spec, prices, bent), bent)
                 found.add(fault)
-        self.assertTrue({None, 0, 1, 2, 3, 4, 5} <= found, found)
+        self.assertEqual(found, {None, 0, 1, 2, 3, 4})
 
     def test_values_of_other_kinds(self):
         prices = once_prices([[1, 2], [1, 3]])
